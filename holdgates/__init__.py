@@ -1,0 +1,1 @@
+"""Holdgates: lanes through which numbers run, gates that hold some of them back."""

@@ -1,0 +1,282 @@
+"""What the tests share: odd things, made-up webs, and a going by hand, gate by gate."""
+
+import copy
+import random
+
+from holdgates.courses import Course
+from holdgates.webs import Web
+
+LINE = Web([("a", "x")])
+TWO = Web([("a", "x"), ("b", "x-")], [("hold", "a", "c", 2, 1), ("cross", "b", "c", "d", "e")])
+
+
+def deep(levels, inner):
+    """A thing so many lists, tuples and dicts within one another."""
+    thing = inner
+    for level in range(levels):
+        thing = [[thing], (thing,), {"k": thing}][level % 3]
+    return thing
+
+
+def anything():
+    """Things of all sorts that may be handed in where "of anything" stands, made anew."""
+    return [
+        None, True, False, 0, 1, -1, 3, 12, 13, 10 ** 12 + 1, 10 ** 60, 10 ** 60 + 1, -(10 ** 70),
+        "", "a", "x", "ab", "A", "hold", "up", "zzzzzzzzz", "x-", "lr", "\u00e9", " ",
+        (), [], {}, (None,), [None], (1,), [1], ("a",), ["a"], {"a": 1}, {("a", 1): [2]},
+        ("a", "x"), ["a", "x"], (("a", "x"),), [["a", "x"]], ((), ()), [(), ()], ([],), ({},),
+        (True, True), (0, ()), (0, []), (0, ((),)), ((1, 2), (3,)), (((), (1,)),),
+        ("hold", "a", "b", 1, 0), deep(10, 1), deep(9, None),
+        LINE, TWO, Course(LINE), (LINE,), [Course(TWO)],
+    ]
+
+
+def equal_kinds(one, other):
+    """Whether two things are equal and of the same kinds all through: no truth is a number, no list a tuple."""
+    if type(one) is not type(other):
+        return False
+    if isinstance(one, (list, tuple)):
+        return len(one) == len(other) and all(equal_kinds(a, b) for a, b in zip(one, other))
+    if isinstance(one, dict):
+        return list(one) == list(other) and all(equal_kinds(one[key], other[key]) for key in one)
+    return one == other
+
+
+def holds_list(thing, found):
+    """Whether a list or dict of a thing is one of those found, the very same."""
+    if isinstance(thing, (list, dict)) and any(thing is other for other in found):
+        return True
+    if isinstance(thing, dict):
+        return any(holds_list(thing[key], found) for key in thing)
+    return isinstance(thing, (list, tuple)) and any(holds_list(part, found) for part in thing)
+
+
+def lists_of(thing):
+    """All lists and dicts within a thing, itself too."""
+    if isinstance(thing, dict):
+        return [thing] + [found for key in thing for found in lists_of(thing[key])]
+    if isinstance(thing, (list, tuple)):
+        own = [thing] if isinstance(thing, list) else []
+        return own + [found for part in thing for found in lists_of(part)]
+    return []
+
+
+def unchanged(call, *told):
+    """What a call tells of copies of the things told, having changed none of them."""
+    before = copy.deepcopy([thing for thing in told if not isinstance(thing, (Web, Course))])
+    answer = call(*told)
+    after = [thing for thing in told if not isinstance(thing, (Web, Course))]
+    if not equal_kinds(before, after):
+        raise AssertionError("what was handed in is changed")
+    return answer
+
+
+class Jam(Exception):
+    def __init__(self, beat):
+        Exception.__init__(self, beat)
+        self.beat = beat
+
+
+class Hand:
+    """A going by hand: lists that are changed in place, one gate behind the other.
+
+    number(inlet, place) tells what goes in, None for nothing.
+    """
+
+    def __init__(self, inlets, gates, lifts, number):
+        self.inlets, self.gates, self.lifts, self.number = inlets, gates, lifts, number
+        self.beat = 0
+        self.went = [0] * len(inlets)
+        self.boxes = []
+        for gate in gates:
+            if gate[0] == "lag":
+                self.boxes.append([None] * gate[3])
+            elif gate[0] == "deal":
+                self.boxes.append([0])
+            else:
+                self.boxes.append([])
+
+    def up(self, at):
+        word = "down"
+        for beat, gate, told in self.lifts:
+            if gate == at and beat + 1 <= self.beat:
+                word = told
+        return word == "up"
+
+    def go(self):
+        """One beat: what each lane carries, by lanes in order."""
+        self.beat += 1
+        lanes = {}
+        for at, (lane, rhythm) in enumerate(self.inlets):
+            lanes[lane] = None
+            long_rhythm = rhythm * (self.beat // len(rhythm) + 1) if self.beat < 10 ** 4 else None
+            sign = long_rhythm[self.beat - 1] if long_rhythm else rhythm[(self.beat - 1) % len(rhythm)]
+            if sign == "x":
+                lanes[lane] = self.number(at, self.went[at])
+                self.went[at] += 1
+        for at, gate in enumerate(self.gates):
+            getattr(self, gate[0])(at, gate, lanes)
+        return tuple(lanes.values())
+
+    def hold(self, at, gate, lanes):
+        token, box = lanes[gate[1]], self.boxes[at]
+        lanes[gate[2]] = None
+        if token is None:
+            return
+        if self.up(at):
+            lanes[gate[2]] = token
+        elif len(box) < gate[3]:
+            box.append(token)
+            box.sort()
+        else:
+            box.append(token)
+            box.sort()
+            lanes[gate[2]] = box[gate[4]]
+            del box[gate[4]]
+
+    def wait(self, at, gate, lanes):
+        token, box = lanes[gate[1]], self.boxes[at]
+        lanes[gate[2]] = None
+        if token is None:
+            return
+        if self.up(at):
+            lanes[gate[2]] = token
+            return
+        box.append(token)
+        if len(box) > gate[3]:
+            lanes[gate[2]] = box.pop(0)
+
+    def lag(self, at, gate, lanes):
+        box = self.boxes[at]
+        box.append(lanes[gate[1]])
+        lanes[gate[2]] = box.pop(0)
+
+    def deal(self, at, gate, lanes):
+        token, box = lanes[gate[1]], self.boxes[at]
+        lanes[gate[2]] = lanes[gate[3]] = None
+        if token is None:
+            return
+        out = gate[2] if gate[4][box[0]] == "l" else gate[3]
+        lanes[out] = token
+        box[0] += 1
+        if box[0] == len(gate[4]):
+            box[0] = 0
+
+    def join(self, at, gate, lanes):
+        box = self.boxes[at]
+        for lane in gate[1:3]:
+            if lanes[lane] is not None:
+                box.append(lanes[lane])
+        lanes[gate[3]] = box.pop(0) if box else None
+        if len(box) > gate[4]:
+            raise Jam(self.beat)
+
+    def cross(self, at, gate, lanes):
+        one, other = lanes[gate[1]], lanes[gate[2]]
+        if one is not None and other is not None and not self.up(at):
+            one, other = min(one, other), max(one, other)
+        lanes[gate[3]], lanes[gate[4]] = one, other
+
+    def kept(self):
+        return tuple(tuple(box) for box in self.boxes)
+
+
+def hand_of(course, number):
+    return Hand(course.web().inlets(), course.web().gates(), course.lifts(), number)
+
+
+def by_feed(feed):
+    """number(inlet, place) of a feed."""
+    return lambda inlet, place: feed[inlet][place] if place < len(feed[inlet]) else None
+
+
+def by_rounds(rounds):
+    """number(inlet, place) of numbers that come round."""
+    def number(inlet, place):
+        row, again = rounds[inlet]
+        if place < len(row):
+            return row[place]
+        return again[(place - len(row)) % len(again)]
+    return number
+
+
+def hand_run(course, feed, beats):
+    """(rows, jam): what each beat carries by hand, and the beat at which it jams, or None."""
+    hand, rows = hand_of(course, by_feed(feed)), []
+    for beat in range(beats):
+        try:
+            rows.append(hand.go())
+        except Jam as told:
+            return rows, told.beat
+    return rows, None
+
+
+def made_web(luck, gates=None, words=("hold", "wait", "lag", "deal", "join", "cross"), most=12, inlets=None):
+    """A web by luck, a random.Random."""
+    names = ["in", "pq", "r", "sable", "tt", "u", "vvvvvvvv", "w"] + [a + b for a in "abcd" for b in "efghkmo"]
+    luck.shuffle(names)
+    rows = []
+    for _ in range(inlets or luck.randint(1, 3)):
+        rhythm = "".join(luck.choice("x-") for _ in range(luck.randint(1, 6)))
+        if "x" not in rhythm:
+            rhythm = "x" + rhythm[1:]
+        rows.append((names.pop(), rhythm))
+    free, told, size = [row[0] for row in rows], [], most
+    for _ in range(luck.randint(0, 10) if gates is None else gates):
+        word = luck.choice(words)
+        if word in ("join", "cross") and len(free) < 2:
+            word = [other for other in words if other not in ("join", "cross")][0]
+        c = luck.choice([0, 1, luck.randint(0, 3), luck.randint(0, size)])
+        c = min(c, size)
+        if word == "lag" and size == 0:
+            word, c = "hold", 0
+        if word == "lag":
+            c = max(1, c)
+        lane = free.pop(luck.randrange(len(free)))
+        if word in ("join", "cross"):
+            other = free.pop(luck.randrange(len(free)))
+        outs = [names.pop() for _ in range(2 if word in ("deal", "cross") else 1)]
+        if word == "hold":
+            told.append((word, lane, outs[0], c, luck.choice([0, c, luck.randint(0, c)])))
+        elif word in ("wait", "lag"):
+            told.append((word, lane, outs[0], c))
+        elif word == "deal":
+            told.append((word, lane, *outs, "".join(luck.choice("lr") for _ in range(luck.randint(1, 6)))))
+        elif word == "join":
+            told.append((word, lane, other, outs[0], c))
+        else:
+            told.append((word, lane, other, *outs))
+        size -= c if word not in ("deal", "cross") else 0
+        free.extend(outs)
+    return Web(rows, told)
+
+
+def made_course(luck, web, beats, most=12):
+    """A course by luck, its lifts at some of the beats told."""
+    able = [at for at, gate in enumerate(web.gates()) if gate[0] in ("hold", "wait", "cross")]
+    places = {(luck.choice(beats), luck.choice(able)) for _ in range(luck.randint(0, most))} if able else set()
+    return Course(web, lifts=[(*place, luck.choice(["up", "down"])) for place in sorted(places)])
+
+
+def made_feed(luck, web, beats):
+    """A feed by luck: rows that end ahead of a beat, at it and behind it."""
+    rows = []
+    for lane, rhythm in web.inlets():
+        many = sum(rhythm[beat % len(rhythm)] == "x" for beat in range(beats))
+        many = luck.choice([many, many, many, many + 3, luck.randint(0, many)])
+        wide = luck.choice([1, 5, 10 ** 12])
+        rows.append(tuple(luck.randint(-wide, wide) for _ in range(many)))
+    return tuple(rows)
+
+
+def made_rounds(luck, web, most=4, least=1):
+    """Numbers that come round, by luck, again and again from least to most."""
+    rounds = []
+    for _ in web.inlets():
+        row = tuple(luck.randint(-9, 9) for _ in range(luck.choice([0, luck.randint(0, most)])))
+        rounds.append((row, tuple(luck.randint(-9, 9) for _ in range(luck.randint(least, most)))))
+    return tuple(rounds)
+
+
+def luck_of(seed):
+    return random.Random(seed)
