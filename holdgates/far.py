@@ -29,7 +29,7 @@ def far_round(course, rounds):
     """The first beat, from the last lift's on, and the number of beats behind which all comes again."""
     going = _gone(course, rounds, lift_beats(course)[-1])
     walk = Walk(going, None, going.beat)
-    return walk.start + walk.first, walk.again()
+    return walk.origin + walk.first, walk.again()
 
 
 def far_nth(course, rounds, lane, number):
@@ -46,11 +46,11 @@ def far_parted(course, rounds, other, lane):
     """The first beat at which a lane carries unlike numbers by two feeds that come round, or None."""
     one, two = _begun(course, rounds), _begun(course, other)
     place = place_of(course.web(), lane)
-    for end in [*lift_beats(course), None]:
+    for end in lift_beats(course) + [None]:
         mine = Walk(one, end, one.beat)
         others = Walk(two, end, two.beat)
         for number in range(own_beats(mine, others, end)):
-            beat = mine.start + number + 1
+            beat = mine.origin + number + 1
             if mine.shown(beat)[place] != others.shown(beat)[place]:
                 return beat
         if end is not None:
@@ -69,7 +69,7 @@ def _gone(course, rounds, beat):
     """A going at a beat, by numbers that come round, gone stretch by stretch."""
     going = _begun(course, rounds)
     starts = [start for start in lift_beats(course) if start < beat]
-    for end in [*starts, beat]:
+    for end in starts + [beat]:
         walk = Walk(going, end, going.beat)
         going.jump(end, walk.behind(end))
     return going

@@ -45,7 +45,7 @@ def is_gate(thing):
 
 def _has_lanes(thing):
     """Whether a tuple that begins with a gate's word has its lanes behind it, all unlike."""
-    lanes = [*taken_by(thing), *given_by(thing)]
+    lanes = taken_by(thing) + given_by(thing)
     if len(lanes) < TAKEN[thing[0]] + GIVEN[thing[0]] or not all([is_name(lane) for lane in lanes]):
         return False
     return len(set(lanes)) == len(lanes)

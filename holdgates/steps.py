@@ -1,4 +1,9 @@
-"""What gates do in a beat. What a gate keeps is a tuple, as a stand tells it."""
+"""What gates do in a beat. What a gate keeps is a tuple, as a stand tells it.
+
+Each action is passed what is told of its gate behind the lanes, what the gate
+keeps, what came by its lanes, and whether it is lifted. It returns what the gate
+keeps then, and what goes on by the lanes that it gives.
+"""
 
 from holdgates.gates import given_by, taken_by, told_of
 
@@ -41,16 +46,11 @@ def one_beat(gates, kept, carried, lifted):
     return tuple(parts)
 
 
-# Each action is passed what is told of its gate behind the lanes, what the gate
-# keeps, what came by its lanes, and whether it is lifted; it returns what the
-# gate keeps then, and what goes on by the lanes that it gives.
-
-
 def _hold(told, kept, came, lifted):
     most, rank = told
     if lifted or came[0] is None:
         return kept, came
-    tokens = sorted([*kept, came[0]])
+    tokens = sorted(kept + came)
     if len(kept) < most:
         return tuple(tokens), (None,)
     gone = tokens.pop(rank)

@@ -12,7 +12,7 @@ class Walk:
     """
 
     def __init__(self, going, end, since):
-        self.start = going.beat
+        self.origin = going.beat
         self.rows = []
         self.stands = [going.full()]
         self.first = None
@@ -25,12 +25,12 @@ class Walk:
         return len(self.rows) - self.first
 
     def shown(self, beat):
-        """What the lanes carry at a beat behind the start."""
-        return self.rows[self._place(beat - self.start - 1)]
+        """What the lanes carry at a beat behind the origin."""
+        return self.rows[self._place(beat - self.origin - 1)]
 
     def behind(self, beat):
         """The full stand behind a beat."""
-        return self.stands[self._place(beat - self.start)]
+        return self.stands[self._place(beat - self.origin)]
 
     def _follow(self, going, end, since):
         """Steps on until the end, or until a full stand comes again."""
@@ -48,7 +48,7 @@ class Walk:
             self.stands.append(going.full())
 
     def _place(self, number):
-        """The place of the own beat that is like the one of this number, from the start."""
+        """The place of the own beat that is like the one of this number, from the origin."""
         if self.first is None or number < len(self.rows):
             return number
         return self.first + (number - self.first) % self.again()
@@ -57,15 +57,15 @@ class Walk:
 def lift_beats(course):
     """0, and the beats of a course's lifts, rising, each once."""
     beats = [lift[0] for lift in course.lifts()]
-    return sorted(set([0, *beats]))
+    return sorted(set([0] + beats))
 
 
 def own_beats(one, other, end):
     """In how many beats two walks from one beat to one end show something unlike, if ever they do."""
     if one.first is None or other.first is None:
-        return end - one.start
+        return end - one.origin
     # Two rounds that are alike for as many beats as both have together are alike for ever.
     beats = max(one.first, other.first) + one.again() + other.again()
     if end is None:
         return beats
-    return min(beats, end - one.start)
+    return min(beats, end - one.origin)

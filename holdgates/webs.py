@@ -111,7 +111,7 @@ def _check_gates(inlets, gates):
         if size > MOST_KEPT:
             raise NoWeb("gates", at)
         lanes.extend(given_by(gate))
-        free = [lane for lane in [*free, *given_by(gate)] if lane not in taken_by(gate)]
+        free = [lane for lane in free if lane not in taken_by(gate)] + list(given_by(gate))
 
 
 def _can_stand(gate, lanes, free):

@@ -4,8 +4,8 @@ from holdgates.bones import beat_at, carried, carries, jam, kept, parted, round_
 from holdgates.courses import Course
 from holdgates.errors import Jams, NoLane, TooLong
 from holdgates.webs import Web
-from tests.helper import Jam, anything, equal_kinds, hand_of, luck_of, made_course, made_web, unchanged
-from tests.slow import jam_at, round_of_600
+from tests.helper import (Jam, anything, equal_kinds, hand_of, jam_at, luck_of, made_course, made_web, round_of_600,
+                          unchanged)
 
 FAR = 10 ** 60
 # Jams at beat 2.

@@ -8,9 +8,8 @@ from holdgates.names import times_of
 from holdgates.runs import run
 from holdgates.stands import go_on, is_stand, stand
 from holdgates.webs import Web
-from tests.helper import (Jam, anything, by_rounds, equal_kinds, hand_of, luck_of, made_course, made_rounds, made_web,
-                          unchanged)
-from tests.slow import jam_at, round_of_600
+from tests.helper import (Jam, anything, by_rounds, equal_kinds, hand_of, jam_at, luck_of, made_course, made_rounds,
+                          made_web, round_of_600, unchanged)
 
 FAR = 10 ** 60
 MOST = 10 ** 12
