@@ -61,14 +61,29 @@ def lists_of(thing):
     return []
 
 
+def inner(thing):
+    """What webs and courses tell of themselves; of other things themselves."""
+    if isinstance(thing, Course):
+        return inner(thing.web()), thing.lifts()
+    return (thing.inlets(), thing.gates()) if isinstance(thing, Web) else thing
+
+
 def unchanged(call, *told):
-    """What a call tells of copies of the things told, having changed none of them."""
-    before = copy.deepcopy([thing for thing in told if not isinstance(thing, (Web, Course))])
+    """What a call tells twice alike, having changed nothing that was handed in.
+
+    What it tells first is emptied, as it is the asker's own.
+    """
+    before = copy.deepcopy([inner(thing) for thing in told])
     answer = call(*told)
-    after = [thing for thing in told if not isinstance(thing, (Web, Course))]
-    if not equal_kinds(before, after):
+    kept = copy.deepcopy(answer)
+    for found in lists_of(answer):
+        found.clear()
+    again = call(*told)
+    if not equal_kinds(kept, again):
+        raise AssertionError("who asks the same is told something else")
+    if not equal_kinds(before, [inner(thing) for thing in told]):
         raise AssertionError("what was handed in is changed")
-    return answer
+    return again
 
 
 class Jam(Exception):

@@ -248,7 +248,9 @@ class Rounds(unittest.TestCase):
 class Shapes(unittest.TestCase):
     def test_shortest_ahead_then_shortest_again(self):
         luck, seen = luck_of(22), 0
-        while seen < 120:
+        for _ in range(20 * 120):
+            if seen == 120:
+                break
             course = made_course(luck, made_web(luck), list(range(12)))
             hand = ByHand(course)
             if hand.due() or sum(hand.round) > 70:
@@ -258,6 +260,7 @@ class Shapes(unittest.TestCase):
                 first, many = hand.round
                 text = "".join("x" if sign else "-" for sign in hand.signs(lane, 3 * (first + many)))
                 self.assertTrue(equal_kinds(unchanged(shape, course, lane), self.shortest(text, first, many)))
+        self.assertEqual(seen, 120)
 
     def shortest(self, text, first, many):
         for ahead in range(first + 1):
@@ -312,7 +315,9 @@ class Parted(unittest.TestCase):
 
     def test_by_hand(self):
         luck, told = luck_of(23), 0
-        while told < 60:
+        for _ in range(20 * 60):
+            if told == 60:
+                break
             web = made_web(luck, luck.randint(1, 4))
             one = made_course(luck, web, [0, 1, 2, 30])
             other = made_course(luck, web, [0, 1, 2, 30])
@@ -330,6 +335,7 @@ class Parted(unittest.TestCase):
             apart = [(beat + 1, lane) for beat in range(beats) for at, lane in enumerate(lanes)
                      if signs[0][at][beat] != signs[1][at][beat]]
             self.assertEqual(unchanged(parted, one, other, lanes), apart[0] if apart else None)
+        self.assertEqual(told, 60)
 
     def test_lifts_alone(self):
         web = Web([("a", "x")], [("wait", "a", "b", 1), ("deal", "b", "c", "d", "lr")])

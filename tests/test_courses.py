@@ -166,6 +166,8 @@ class NoCourses(unittest.TestCase):
         for gate in [True, False, None, "0", (0,)]:
             self.assertEqual(refused(WEB, [(0, gate, "up")]), "lifts", gate)
         self.assertEqual(refused(LINE, [(0, 0, "up")]), "lifts")
+        for gate in range(-3, 4):
+            self.assertEqual(refused(TWO, [(0, gate, "up")]), None if gate in (0, 1) else "lifts", gate)
 
     def test_rising_by_beat_and_gate(self):
         self.assertIsNone(refused(WEB, [(0, 0, "up"), (0, 1, "up"), (0, 4, "up"), (1, 0, "up"), (1, 4, "up")]))

@@ -209,7 +209,9 @@ class FarBeats(unittest.TestCase):
 
     def test_single_beats_about_far_ones(self):
         luck, seen = luck_of(34), 0
-        while seen < 40:
+        for _ in range(20 * 40):
+            if seen == 40:
+                break
             web = made_web(luck, luck.randint(1, 6), words=("hold", "wait", "lag", "deal", "cross"), most=4)
             beats = [0, 2, 10 ** 20, 10 ** 20 + 1, 10 ** 20 + 3, 10 ** 40, FAR - 2, FAR - 1]
             course = made_course(luck, web, beats, 8)
@@ -224,10 +226,13 @@ class FarBeats(unittest.TestCase):
                     rows, behind = go_on(course, start, feed, many)
                     self.assertTrue(equal_kinds(far_carried(course, rounds, beat + many), rows[-1]))
                     self.assertTrue(equal_kinds(far_stand(course, rounds, beat + many), behind))
+        self.assertEqual(seen, 40)
 
     def test_rounds_alike(self):
         luck, seen = luck_of(35), 0
-        while seen < 60:
+        for _ in range(20 * 60):
+            if seen == 60:
+                break
             web = made_web(luck, luck.randint(1, 6), words=("hold", "wait", "lag", "deal", "cross"), most=4)
             course = made_course(luck, web, [0, 2, 9, 33])
             rounds = made_rounds(luck, web, 3)
@@ -243,6 +248,7 @@ class FarBeats(unittest.TestCase):
                 like = first + (beat - first) % many
                 self.assertEqual(far_stand(course, rounds, beat), (beat, hand.kept[like]))
                 self.assertEqual(far_carried(course, rounds, beat), hand.rows[(like if like > first else like + many) - 1])
+        self.assertEqual(seen, 60)
 
 
 class Refused(unittest.TestCase):
@@ -318,7 +324,9 @@ class Refused(unittest.TestCase):
 class Nth(unittest.TestCase):
     def test_by_hand(self):
         luck, seen, nones = luck_of(36), 0, 0
-        while seen < 60:
+        for _ in range(20 * 60):
+            if seen == 60:
+                break
             web = made_web(luck, luck.randint(0, 6), most=4)
             course = made_course(luck, web, [0, 2, 9])
             rounds = made_rounds(luck, web, 3)
@@ -338,6 +346,7 @@ class Nth(unittest.TestCase):
                     elif went[number][0] <= 600:
                         self.assertTrue(equal_kinds(unchanged(far_nth, course, rounds, lane, number), went[number]))
                 self.check_far(course, rounds, lane, place)
+        self.assertEqual(seen, 60)
         self.assertTrue(nones > 5)
 
     def check_far(self, course, rounds, lane, place):

@@ -34,6 +34,12 @@ class Names(unittest.TestCase):
         for text in ["", "-", "--", "------", "xxxxxxx", "x------", "X", "x.", "x ", " x", "xy", "x\n", "x1"]:
             self.assertIs(is_rhythm(text), False, text)
 
+    def test_signs(self):
+        for code in range(300):
+            self.assertIs(is_name(chr(code)), chr(code) in "abcdefghijklmnopqrstuvwxyz", code)
+            self.assertIs(is_name("a" + chr(code)), chr(code) in "abcdefghijklmnopqrstuvwxyz", code)
+            self.assertIs(is_rhythm("x" + chr(code)), chr(code) in "x-", code)
+
     def test_rhythms_of_anything(self):
         for thing in anything():
             self.assertIs(is_rhythm(thing), isinstance(thing, str) and thing in ("x", "x-"), thing)

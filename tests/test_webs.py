@@ -286,6 +286,12 @@ class NoWebs(unittest.TestCase):
         for text in ["", "lrlrlrl", "x", "L", "l r", "lr\n", ("l",), ["l"]]:
             self.assertEqual(refused(ONE_IN, [("deal", "a", "b", "c", text)]), ("gates", 0), text)
 
+    def test_signs_of_deals(self):
+        for code in range(32, 128):
+            due = None if chr(code) in "lr" else ("gates", 0)
+            self.assertEqual(refused(ONE_IN, [("deal", "a", "b", "c", chr(code))]), due, code)
+            self.assertEqual(refused(ONE_IN, [("deal", "a", "b", "c", "l" + chr(code))]), due, code)
+
     def test_names_of_gates_lanes(self):
         self.assertIsNone(refused([("abcdefgh", "x")], [("wait", "abcdefgh", "hgfedcba", 1)]))
         self.assertEqual(refused([("a", "x")], [("wait", "a", "abcdefghi", 1)]), ("gates", 0))
@@ -326,6 +332,13 @@ class NoWebs(unittest.TestCase):
         self.assertIsNone(refused(TWO_IN, [("hold", "a", "c", 6, 6), ("hold", "b", "d", 6, 6)]))
         self.assertEqual(refused(TWO_IN, [("wait", "a", "c", 12), ("wait", "b", "d", 1), None]), ("gates", 1))
         self.assertEqual(refused(TWO_IN, [("wait", "a", "c", 12), None, ("wait", "b", "d", 1)]), ("gates", 1))
+
+    def test_deals_and_crosses_have_no_c(self):
+        gates = [("deal", "a", "c", "d", "lr"), ("cross", "c", "b", "e", "f"), ("wait", "d", "g", 12)]
+        self.assertIsNone(refused(TWO_IN, gates))
+        self.assertIsNone(refused(TWO_IN, gates + [("wait", "e", "h", 0)]))
+        for c in [1, 2]:
+            self.assertEqual(refused(TWO_IN, gates + [("wait", "e", "h", c)]), ("gates", 3))
 
     def test_inlets_ahead_of_gates_and_the_first_of_each(self):
         self.assertEqual(refused([("a", "x"), None, None], [None]), ("inlets", 1))
