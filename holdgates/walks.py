@@ -19,9 +19,7 @@ class Walk:
         self._follow(going, end, since)
 
     def again(self):
-        """Behind how many beats all comes again; 0 where the end is ahead of that."""
-        if self.first is None:
-            return 0
+        """Behind how many beats all comes again, where the end isn't ahead of that."""
         return len(self.rows) - self.first
 
     def shown(self, beat):

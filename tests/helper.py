@@ -4,6 +4,7 @@ import copy
 import random
 
 from holdgates.courses import Course
+from holdgates.errors import Jams, TooLong
 from holdgates.webs import Web
 
 LINE = Web([("a", "x")])
@@ -86,7 +87,18 @@ def unchanged(call, *told):
     return again
 
 
+def refusal(ask, *told):
+    """The class and the field of the Jams or TooLong that is due, or None."""
+    try:
+        ask(*told)
+    except (Jams, TooLong) as refused:
+        return type(refused), list(vars(refused).values())[0]
+    return None
+
+
 class Jam(Exception):
+    """By hand: the web jams at this beat."""
+
     def __init__(self, beat):
         Exception.__init__(self, beat)
         self.beat = beat

@@ -4,8 +4,8 @@ from holdgates.bones import beat_at, carried, carries, jam, kept, parted, round_
 from holdgates.courses import Course
 from holdgates.errors import Jams, NoLane, TooLong
 from holdgates.webs import Web
-from tests.helper import (Jam, anything, equal_kinds, hand_of, jam_at, luck_of, made_course, made_web, round_of_600,
-                          unchanged)
+from tests.helper import (Jam, anything, equal_kinds, hand_of, jam_at, luck_of, made_course, made_web, refusal,
+                          round_of_600, unchanged)
 
 FAR = 10 ** 60
 # Jams at beat 2.
@@ -71,14 +71,6 @@ class ByHand:
     def signs(self, lane, beats):
         place = self.course.web().lanes().index(lane)
         return [self.rows[self.like(beat) - 1][place] is not None for beat in range(1, beats + 1)]
-
-
-def refusal(ask, *told):
-    try:
-        ask(*told)
-    except (Jams, TooLong) as refused:
-        return type(refused), list(vars(refused).values())[0]
-    return None
 
 
 class Bones(unittest.TestCase):

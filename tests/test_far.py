@@ -9,7 +9,7 @@ from holdgates.runs import run
 from holdgates.stands import go_on, is_stand, stand
 from holdgates.webs import Web
 from tests.helper import (Jam, anything, by_rounds, equal_kinds, hand_of, jam_at, luck_of, made_course, made_rounds,
-                          made_web, round_of_600, unchanged)
+                          made_web, refusal, round_of_600, unchanged)
 
 FAR = 10 ** 60
 MOST = 10 ** 12
@@ -31,14 +31,6 @@ WRONG = [
     ((((), (-MOST - 1,)),), 0), ((((MOST + 1,), (1,)),), 0), ((((), (1,) * 13),), 0), ((((1,) * 13, (1,)),), 0),
     ([((), ())], 0), ((((), 1),), 0), (((1, (1,)),), 0), (({(): (1,)},), 0), ((((), {1: 2}),), 0),
 ]
-
-
-def refusal(ask, *told):
-    try:
-        ask(*told)
-    except (Jams, TooLong) as refused:
-        return type(refused), list(vars(refused).values())[0]
-    return None
 
 
 class ByHand:
@@ -442,6 +434,18 @@ class Parted(unittest.TestCase):
         changed = (ROUND_600[0], ((), (1, 2, 3, 4, 5, 6, 7, 9)), ROUND_600[2])
         self.assertEqual(far_parted(slow, ROUND_600, changed, "b"), 8)
         self.assertIsNone(far_parted(slow, ROUND_600, changed, "a"))
+
+    def test_apart_but_for_a_lift(self):
+        # a's numbers come apart at each beat 10 of 30; d carries them where the cross isn't lifted.
+        web = Web([("a", "x"), ("b", "x")], [("cross", "a", "b", "c", "d")])
+        rounds, other = (((), (1, 1, 1, 1, 2)), ((), (0,))), (((), (1, 1, 1, 1, 2, 1)), ((), (0,)))
+        for lifts, lane, due in [
+                ([], "d", 10), ([], "c", None), ([(7, 0, "up")], "d", None), ([(7, 0, "up")], "c", 10),
+                ([(9, 0, "up")], "d", None), ([(10, 0, "up")], "d", 10), ([(0, 0, "up"), (9, 0, "down")], "d", 10),
+                ([(0, 0, "up"), (30, 0, "down"), (37, 0, "up")], "d", None),
+                ([(0, 0, "up"), (30, 0, "down"), (39, 0, "up")], "d", None),
+                ([(0, 0, "up"), (30, 0, "down"), (40, 0, "up")], "d", 40)]:
+            self.assertEqual(far_parted(Course(web, lifts=lifts), rounds, other, lane), due, (lifts, lane))
 
     def test_behind_a_far_lift(self):
         web = Web([("a", "x"), ("b", "x")], [("cross", "a", "b", "c", "d")])
