@@ -1,17 +1,22 @@
 """Bones: when lanes carry and how many gates keep, of feeds without end."""
 
 from holdgates.errors import Jams
-from holdgates.goings import Going, first_kept
+from holdgates.goings import by_noughts
 from holdgates.steps import tokens_kept
 from holdgates.things import root
 from holdgates.walks import Walk, lift_beats, own_beats
 from holdgates.webs import place_of
 
 
+def bones_of(course):
+    """A course's walk by noughts that come round: of feeds without end all are alike to it."""
+    return Walk(by_noughts(course), None, lift_beats(course)[-1])
+
+
 def jam(course):
     """The first beat at which a course jams, or None."""
     try:
-        _bones(course)
+        bones_of(course)
     except Jams as refused:
         return refused.beat
     return None
@@ -19,21 +24,21 @@ def jam(course):
 
 def round_of(course):
     """The first beat, from the last lift's on, and the number of beats behind which all comes again."""
-    walk = _bones(course)
+    walk = bones_of(course)
     return walk.first, walk.again()
 
 
 def carries(course, lane, beat):
     """Whether a lane carries at a beat."""
     place = place_of(course.web(), lane)
-    walk = _bones(course)
+    walk = bones_of(course)
     return beat >= 1 and walk.shown(beat)[place] is not None
 
 
 def carried(course, lane, beat):
     """How many tokens a lane has carried up to a beat."""
     place = place_of(course.web(), lane)
-    walk = _bones(course)
+    walk = bones_of(course)
     ahead, turn = _carrying(walk, place)
     if beat <= walk.first:
         return len([at for at in ahead if at <= beat])
@@ -44,14 +49,14 @@ def carried(course, lane, beat):
 
 def kept(course, gate, beat):
     """How many tokens a gate keeps behind a beat."""
-    parts = _bones(course).behind(beat)[0]
+    parts = bones_of(course).behind(beat)[0]
     return len(tokens_kept(course.web().gates()[gate], parts[gate]))
 
 
 def beat_at(course, lane, number):
     """The beat at which a lane carries its token of this number, from 0; None where it never does."""
     place = place_of(course.web(), lane)
-    walk = _bones(course)
+    walk = bones_of(course)
     ahead, turn = _carrying(walk, place)
     if number < len(ahead):
         return ahead[number]
@@ -64,7 +69,7 @@ def beat_at(course, lane, number):
 def shape(course, lane):
     """A lane's signs, x where it carries: those ahead, and those that come again and again."""
     place = place_of(course.web(), lane)
-    walk = _bones(course)
+    walk = bones_of(course)
     signs = "".join(["-" if row[place] is None else "x" for row in walk.rows])
     ahead, again = signs[:walk.first], root(signs[walk.first:])
     while ahead != "" and ahead[-1] == again[-1]:
@@ -76,21 +81,13 @@ def parted(course, other, lanes):
     """The first beat and lane at which just one of two courses carries there, or None."""
     places = [place_of(course.web(), lane) for lane in lanes]
     spots = [place_of(other.web(), lane) for lane in lanes]
-    one, two = _bones(course), _bones(other)
+    one, two = bones_of(course), bones_of(other)
     for beat in range(1, own_beats(one, two, None) + 1):
         mine, others = one.shown(beat), two.shown(beat)
         for lane, place, spot in zip(lanes, places, spots):
             if (mine[place] is None) != (others[spot] is None):
                 return beat, lane
     return None
-
-
-def _bones(course):
-    """A course's walk by noughts that come round: of feeds without end all are alike to it."""
-    web = course.web()
-    supplies = [((), (0,)) for _ in web.inlets()]
-    going = Going(course, supplies, (0, first_kept(web)))
-    return Walk(going, None, lift_beats(course)[-1])
 
 
 def _carrying(walk, place):

@@ -14,12 +14,10 @@ def is_feed(web, thing):
 
 def inputs(web, beat):
     """All (inlet, number) that go in up to a beat, by beats, of one beat by inlets."""
-    rhythms = [rhythm for _, rhythm in web.inlets()]
     found = []
     for now in range(1, beat + 1):
-        for inlet, rhythm in enumerate(rhythms):
-            if takes(rhythm, now):
-                found.append((inlet, times_of(rhythm, now) - 1))
+        times = times_by(web, now)
+        found.extend([(inlet, times[inlet] - 1) for inlet in takers(web, now)])
     return found
 
 
@@ -39,6 +37,11 @@ def is_endless(web, feed, beat):
     """Whether each row of a feed has all numbers that go in up to a beat."""
     check_feed(web, feed)
     return all([len(row) >= many for row, many in zip(feed, times_by(web, beat))])
+
+
+def takers(web, beat):
+    """The numbers of the inlets that take at a beat, rising."""
+    return [inlet for inlet, (_, rhythm) in enumerate(web.inlets()) if takes(rhythm, beat)]
 
 
 def times_by(web, beat):

@@ -27,6 +27,12 @@ def told_of(gate):
     return gate[1 + TAKEN[gate[0]] + GIVEN[gate[0]]:]
 
 
+def called(gate, names):
+    """A gate, its lanes called by other names where a dict tells some."""
+    lanes = [names.get(lane, lane) for lane in taken_by(gate) + given_by(gate)]
+    return gate[:1] + tuple(lanes) + told_of(gate)
+
+
 def size_of(gate):
     """The c of a gate: how much it keeps at most; 0 of deals and crosses."""
     if gate[0] in ("deal", "cross"):

@@ -17,8 +17,19 @@ def set_out(course, stand, feed, beats):
     check_feed(course.web(), feed)
     if beats > LONGEST:
         raise TooLong(LONGEST)
+    return by_feed(course, stand, feed)
+
+
+def by_feed(course, stand, feed):
+    """A going from a stand by a feed."""
     # A feed is as numbers that come round: behind its last one comes nothing, again and again.
     return Going(course, [(row, (None,)) for row in feed], stand)
+
+
+def by_noughts(course):
+    """A going from the first stand by noughts without end."""
+    web = course.web()
+    return Going(course, [((), (0,)) for _ in web.inlets()], (0, first_kept(web)))
 
 
 class Going:

@@ -1,6 +1,6 @@
 """Plain forms of webs: what shows the same by fewer gates and shorter texts."""
 
-from holdgates.gates import given_by, size_of, taken_by, told_of
+from holdgates.gates import called, size_of
 from holdgates.things import root
 from holdgates.webs import Web
 
@@ -75,10 +75,4 @@ def _left_out(inlets, gates, at):
     _, lane, out = gates[at][:3]
     names = {lane: out}
     rows = [(names.get(name, name), rhythm) for name, rhythm in inlets]
-    return rows, [_renamed(gate, names) for gate in gates[:at] + gates[at + 1:]]
-
-
-def _renamed(gate, names):
-    """A gate, its lanes called by other names."""
-    lanes = [names.get(lane, lane) for lane in taken_by(gate) + given_by(gate)]
-    return gate[:1] + tuple(lanes) + told_of(gate)
+    return rows, [called(gate, names) for gate in gates[:at] + gates[at + 1:]]

@@ -9,6 +9,16 @@ def is_whole(thing, least, most):
     return isinstance(thing, int) and not isinstance(thing, bool) and least <= thing <= most
 
 
+def is_count(thing):
+    """Whether a thing is a whole number from 0 on."""
+    return isinstance(thing, int) and not isinstance(thing, bool) and thing >= 0
+
+
+def is_bit(thing):
+    """Whether a thing is a nought or a one."""
+    return is_whole(thing, 0, 1)
+
+
 def is_number(thing):
     """Whether a thing is a number that can be fed."""
     return is_whole(thing, -GREATEST, GREATEST)

@@ -1,10 +1,11 @@
 """What the tests share: odd things, made-up webs, and a going by hand, gate by gate."""
 
 import copy
+import itertools
 import random
 
 from holdgates.courses import Course
-from holdgates.errors import Jams, TooLong
+from holdgates.errors import Jams, TooLong, TooMany
 from holdgates.webs import Web
 
 LINE = Web([("a", "x")])
@@ -87,11 +88,11 @@ def unchanged(call, *told):
     return again
 
 
-def refusal(ask, *told):
-    """The class and the field of the Jams or TooLong that is due, or None."""
+def refusal(ask, *told, **more):
+    """The class and the field of the Jams, TooLong or TooMany that is due, or None."""
     try:
-        ask(*told)
-    except (Jams, TooLong) as refused:
+        ask(*told, **more)
+    except (Jams, TooLong, TooMany) as refused:
         return type(refused), list(vars(refused).values())[0]
     return None
 
@@ -208,6 +209,115 @@ class Hand:
         return tuple(tuple(box) for box in self.boxes)
 
 
+class Bits:
+    """Webs of the same inlets side by side, by hand, fed by the same noughts and ones of a kind; joins never jam."""
+
+    def __init__(self, webs, kinds=None):
+        self.kinds = [None] * len(webs[0].inlets()) if kinds is None else list(kinds)
+        self.rows = [[] for _ in webs[0].inlets()]
+        self.hands = []
+        self.seen = []
+        for web in webs:
+            gates = [gate[:4] + (10 ** 6,) if gate[0] == "join" else gate for gate in web.gates()]
+            self.hands.append(Hand(web.inlets(), gates, [], self.number))
+
+    def number(self, inlet, place):
+        return self.rows[inlet][place]
+
+    def due(self):
+        """The inlets that take at the next beat."""
+        beat = self.hands[0].beat + 1
+        return [at for at, (_, rhythm) in enumerate(self.hands[0].inlets) if (rhythm * beat)[beat - 1] == "x"]
+
+    def on(self, choice):
+        """Another one, a beat later, or None where this isn't of the kind."""
+        other = self.copied()
+        for inlet, bit in zip(self.due(), choice):
+            row, kind = other.rows[inlet], self.kinds[inlet]
+            row.append(bit)
+            if kind is not None and any(row[at] > bit for at in range(len(row) - 1 - kind)):
+                return None
+        other.seen.append(tuple(hand.go() for hand in other.hands))
+        return other
+
+    def copied(self):
+        other = copy.copy(self)
+        other.rows = [list(row) for row in self.rows]
+        other.seen = list(self.seen)
+        other.hands = []
+        for hand in self.hands:
+            twin = copy.copy(hand)
+            twin.number = other.number
+            twin.boxes = [list(box) for box in hand.boxes]
+            twin.went = list(hand.went)
+            other.hands.append(twin)
+        return other
+
+    def nexts(self):
+        """(choice, other) for all that are of the kind, choices rising."""
+        found = []
+        for choice in itertools.product((0, 1), repeat=len(self.due())):
+            other = self.on(choice)
+            if other is not None:
+                found.append((choice, other))
+        return found
+
+    def marks(self):
+        told = []
+        for row, kind in zip(self.rows, self.kinds):
+            told.append(None if kind is None or 1 not in row else min(len(row) - 1 - row.index(1), kind))
+        return tuple(told)
+
+    def stand(self):
+        """(rest, kept for each web, marks)."""
+        common = 1
+        while any(common % len(rhythm) for _, rhythm in self.hands[0].inlets):
+            common += 1
+        return self.hands[0].beat % common, *(hand.kept() for hand in self.hands), self.marks()
+
+    def feed(self):
+        return tuple(tuple(row) for row in self.rows)
+
+
+def gone_through(bits, key, ends, most=400):
+    """All that can be come to by hand, level by level: (found by key, those at whose beat ends tells something).
+
+    Ends with the first level that has such; None where there are more than most.
+    """
+    found, level = {key(bits): bits}, [bits]
+    for _ in range(most + 1):
+        if len(found) > most:
+            return None
+        nexts = [other for one in level for _, other in one.nexts()]
+        ended = [other for other in nexts if ends(other) is not None]
+        if ended or not nexts:
+            return found, ended
+        level = []
+        for other in nexts:
+            if key(other) not in found:
+                found[key(other)] = other
+                level.append(other)
+    raise AssertionError("more levels than there can be")
+
+
+def made_feed_of(luck, web, kinds, beats):
+    """A feed of a kind without end up to a beat, by luck."""
+    rows = []
+    for at, (_, rhythm) in enumerate(web.inlets()):
+        kind, row = None if kinds is None else kinds[at], []
+        wide = luck.choice([1, 3, 10, 1000])
+        for _ in range(sum(rhythm[beat % len(rhythm)] == "x" for beat in range(beats))):
+            least = max(row[:len(row) - kind], default=0) if kind is not None else 0
+            row.append(least + luck.randint(0, wide))
+        rows.append(tuple(row))
+    return tuple(rows)
+
+
+def made_kinds(luck, web):
+    """A kind by luck."""
+    return tuple(luck.choice([None, 0, 1, 2, luck.randint(0, 8)]) for _ in web.inlets())
+
+
 def hand_of(course, number):
     return Hand(course.web().inlets(), course.web().gates(), course.lifts(), number)
 
@@ -236,6 +346,12 @@ def hand_run(course, feed, beats):
         except Jam as told:
             return rows, told.beat
     return rows, None
+
+
+def run_by_hand(web, feed, beats):
+    """What each beat carries by hand, of a web without lifts that doesn't jam."""
+    hand = Hand(web.inlets(), web.gates(), [], by_feed(feed))
+    return [hand.go() for _ in range(beats)]
 
 
 def made_web(luck, gates=None, words=("hold", "wait", "lag", "deal", "join", "cross"), most=12, inlets=None):
@@ -314,6 +430,16 @@ def round_of_600(*more):
     return Web([("a", "x"), ("b", "x"), ("c", "x--")], [
         ("deal", "a", "d", "e", "lrrrr"), ("deal", "d", "f", "g", "lrrrr"),
         ("deal", "b", "h", "i", "lrrr"), ("deal", "h", "j", "k", "lr"), *more])
+
+
+# Just 2000 of its small stands with marks can be come to, for the kind (8, 8); c never carries.
+JUST_2000 = Web([("a", "xxxx-"), ("b", "x---")], [("deal", "a", "d", "c", "l")])
+# 2001 of its small stands can be come to; d never carries.
+JUST_2001 = Web([("b", "x"), ("a", "--xxx")], [
+    ("wait", "a", "e", 6), ("deal", "b", "d", "f", "rr"), ("hold", "d", "g", 1, 0), ("deal", "f", "h", "i", "rrllrr")])
+# d falls at first where 2000, and 2001, of (rest, kept, marks, high) were come to by fewer beats, for these kinds.
+FALLS_2000 = Web([("a", "-xx-x-"), ("b", "-x--x"), ("c", "xx-x-x")], [("hold", "a", "d", 5, 0)]), (8, 1, 3)
+FALLS_2001 = Web([("a", "x--"), ("b", "x----"), ("c", "xx-")], [("hold", "a", "d", 4, 0)]), (7, 1, 4)
 
 
 def jam_at(beat):

@@ -22,6 +22,12 @@ FUNCTIONS = {
               "kept(course, gate, beat)", "beat_at(course, lane, number)", "shape(course, lane)",
               "parted(course, other, lanes)"],
     "plain": ["plain(web)", "is_plain(web)"],
+    "kin": ["renamed(web, names)", "mirrored(web)", "beside(one, other)", "behind(one, other, names)",
+            "pruned(web, lanes)"],
+    "smalls": ["first_small(web)", "choices(web, small)", "small_next(web, small, choice)"],
+    "likes": ["is_of(web, kinds, feed)"],
+    "alike": ["alike(one, other, couples, *, kinds=None)"],
+    "rises": ["rises(web, lane, *, kinds=None)"],
 }
 CLASSES = {
     "webs": ("Web(inlets, gates=())", ["inlets()", "gates()", "lanes()", "outlets()", "common()", "sources(lane)",
