@@ -6,6 +6,8 @@ import random
 
 from holdgates.courses import Course
 from holdgates.errors import Jams, TooLong, TooMany
+from holdgates.feeds import cut, is_endless, is_feed
+from holdgates.likes import is_of
 from holdgates.webs import Web
 
 LINE = Web([("a", "x")])
@@ -300,6 +302,110 @@ def gone_through(bits, key, ends, most=400):
     raise AssertionError("more levels than there can be")
 
 
+def bits_at(webs, kinds, node):
+    """Webs by hand at (rest, kept of each, marks)."""
+    bits, (rest, *kept, marks) = Bits(webs, kinds), node
+    # A row of as many ones has just this mark.
+    bits.rows = [[1] * (0 if mark is None else mark + 1) for mark in marks]
+    for hand, parts in zip(bits.hands, kept):
+        hand.beat, hand.went = rest, [len(row) for row in bits.rows]
+        hand.boxes = [list(part) for part in parts]
+    return bits
+
+
+def is_bit(thing):
+    return type(thing) is int and thing in (0, 1)
+
+
+def can_be_kept(gate, thing):
+    """By hand: whether a thing is of the form of what a gate keeps of noughts and ones."""
+    if type(thing) is not tuple:
+        return False
+    if gate[0] == "cross":
+        return thing == ()
+    if gate[0] == "deal":
+        return len(thing) == 1 and type(thing[0]) is int and 0 <= thing[0] < len(gate[4])
+    if gate[0] == "lag":
+        return len(thing) == gate[3] and all(part is None or is_bit(part) for part in thing)
+    most = gate[4] if gate[0] == "join" else gate[3]
+    return len(thing) <= most and all(map(is_bit, thing)) and (gate[0] != "hold" or list(thing) == sorted(thing))
+
+
+def is_node(webs, kinds, thing):
+    """By hand: whether a thing is of the form (rest, kept of each web, marks)."""
+    inlets = webs[0].inlets()
+    kinds = [None] * len(inlets) if kinds is None else kinds
+    if type(thing) is not tuple or len(thing) != len(webs) + 2:
+        return False
+    rest, *kept, marks = thing
+    if type(rest) is not int or not 0 <= rest < webs[0].common():
+        return False
+    for web, parts in zip(webs, kept):
+        if type(parts) is not tuple or len(parts) != len(web) or not all(map(can_be_kept, web.gates(), parts)):
+            return False
+    if type(marks) is not tuple or len(marks) != len(inlets):
+        return False
+    return all(mark is None or kind is not None and type(mark) is int and 0 <= mark <= kind
+               for mark, kind in zip(marks, kinds))
+
+
+def is_lot(webs, kinds, thing, is_more, first, step):
+    """By hand: whether a thing is a list of nodes and something more, as a look at it asks.
+
+    is_more(part): whether this stands behind a node; step(bits, part): what stands there a beat later, None where
+    this beat mustn't be.
+    """
+    if type(thing) is not list:
+        return False
+    for at, node in enumerate(thing):
+        if type(node) is not tuple or len(node) != len(webs) + 2 + len(first):
+            return False
+        if not is_node(webs, kinds, node[:len(webs) + 2]) or not is_more(node[len(webs) + 2:]):
+            return False
+        if node in thing[:at]:
+            return False
+    if (*Bits(webs, kinds).stand(), *first) not in thing:
+        return False
+    for node in thing:
+        for _, other in bits_at(webs, kinds, node[:len(webs) + 2]).nexts():
+            more = step(other, node[len(webs) + 2:])
+            if more is None or (*other.stand(), *more) not in thing:
+                return False
+    return True
+
+
+def is_shown(web, kinds, beat, feed):
+    """By the document's words: whether a feed of the kind is cut at a beat, without end up to there."""
+    if type(beat) is not int or not 1 <= beat <= 2001 or type(feed) is not tuple or not is_feed(web, feed):
+        return False
+    return cut(web, feed, beat) == feed and is_endless(web, feed, beat) and is_of(web, kinds, feed)
+
+
+def spoilt(thing):
+    """A thing otherwise at each place and depth."""
+    if isinstance(thing, (list, tuple)):
+        kind = type(thing)
+        found = [list(thing) if kind is tuple else tuple(thing), None, 0]
+        for at in range(len(thing)):
+            found.append(thing[:at] + thing[at + 1:])
+            found.append(thing[:at] + thing[at:at + 1] + thing[at:])
+            found.append(thing[:at] + thing[at:][::-1])
+            for part in spoilt(thing[at]):
+                found.append(thing[:at] + kind([part]) + thing[at + 1:])
+        return found + [thing + kind([None]), kind([None]) + thing, thing + kind([0]), kind([thing])]
+    if thing is None:
+        return [0, 1, False, (), "None"]
+    if isinstance(thing, str):
+        return [thing + "x", thing[1:], "", "rises", "falls", "alike", "parts", "hold", "never", None, 1, (thing,)]
+    return [thing + 1, thing - 1, bool(thing), not thing, 1 - thing, None, str(thing), (thing,), [thing], -1, 9, 2001]
+
+
+def some_spoilt(luck, thing, most):
+    """Some of what is spoilt, by luck."""
+    found = spoilt(thing)
+    return found if len(found) <= most else luck.sample(found, most)
+
+
 def made_feed_of(luck, web, kinds, beats):
     """A feed of a kind without end up to a beat, by luck."""
     rows = []
@@ -394,6 +500,29 @@ def made_web(luck, gates=None, words=("hold", "wait", "lag", "deal", "join", "cr
     return Web(rows, told)
 
 
+def other_of(luck, web):
+    """A web with the same inlets, a gate or two otherwise, or just alike in other words."""
+    gates = web.gates()
+    for _ in range(luck.choice([0, 1, 1, 2]) if gates else 0):
+        at = luck.randrange(len(gates))
+        gate = gates[at]
+        if gate[0] == "hold":
+            gate = luck.choice([gate[:4] + (luck.randint(0, gate[3]),), ("wait", *gate[1:4])])
+        elif gate[0] == "wait":
+            gate = luck.choice([("hold", *gate[1:4], luck.choice([0, gate[3]])), gate[:3] + (max(gate[3] - 1, 0),)])
+        elif gate[0] == "lag":
+            gate = luck.choice([("wait", *gate[1:]), gate])
+        elif gate[0] == "deal":
+            gate = luck.choice([gate[:4] + (gate[4] * 2 if len(gate[4]) < 4 else gate[4],),
+                                ("deal", gate[1], gate[3], gate[2], gate[4])])
+        elif gate[0] == "cross":
+            gate = luck.choice([("cross", gate[2], gate[1], gate[3], gate[4]), gate[:3] + (gate[4], gate[3])])
+        elif gate[0] == "join":
+            gate = ("join", gate[2], gate[1], *gate[3:])
+        gates[at] = gate
+    return Web(web.inlets(), gates)
+
+
 def made_course(luck, web, beats, most=12):
     """A course by luck, its lifts at some of the beats told."""
     able = [at for at, gate in enumerate(web.gates()) if gate[0] in ("hold", "wait", "cross")]
@@ -434,6 +563,10 @@ def round_of_600(*more):
 
 # Just 2000 of its small stands with marks can be come to, for the kind (8, 8); c never carries.
 JUST_2000 = Web([("a", "xxxx-"), ("b", "x---")], [("deal", "a", "d", "c", "l")])
+# Just 2000 of its small stands can be come to; g never carries.
+SMALL_2000 = Web([("a", "-x-")], [
+    ("deal", "a", "b", "c", "lrlr"), ("wait", "b", "d", 1), ("lag", "c", "e", 3), ("wait", "e", "f", 4),
+    ("deal", "f", "g", "h", "rrr")])
 # 2001 of its small stands can be come to; d never carries.
 JUST_2001 = Web([("b", "x"), ("a", "--xxx")], [
     ("wait", "a", "e", 6), ("deal", "b", "d", "f", "rr"), ("hold", "d", "g", 1, 0), ("deal", "f", "h", "i", "rrllrr")])

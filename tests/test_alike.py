@@ -9,7 +9,7 @@ from holdgates.likes import is_of
 from holdgates.plain import plain
 from holdgates.webs import Web
 from tests.helper import (JUST_2000, JUST_2001, LINE, Bits, anything, equal_kinds, gone_through, jam_at, luck_of,
-                          made_kinds, made_web, refusal, round_of_600, run_by_hand, unchanged)
+                          made_kinds, made_web, other_of, refusal, round_of_600, run_by_hand, unchanged)
 
 # Waits of one and two do what one of three does; so do holds that let the least go.
 THREE = Web([("a", "x")], [("wait", "a", "b", 3)])
@@ -34,29 +34,6 @@ def first_apart(couples, places):
 
 def places_of(one, other, couples):
     return [(one.lanes().index(lane), other.lanes().index(spot)) for lane, spot in couples]
-
-
-def other_of(luck, web):
-    """A web with the same inlets, a gate or two otherwise, or just alike in other words."""
-    gates = web.gates()
-    for _ in range(luck.choice([0, 1, 1, 2]) if gates else 0):
-        at = luck.randrange(len(gates))
-        gate = gates[at]
-        if gate[0] == "hold":
-            gate = luck.choice([gate[:4] + (luck.randint(0, gate[3]),), ("wait", *gate[1:4])])
-        elif gate[0] == "wait":
-            gate = luck.choice([("hold", *gate[1:4], luck.choice([0, gate[3]])), gate[:3] + (max(gate[3] - 1, 0),)])
-        elif gate[0] == "lag":
-            gate = luck.choice([("wait", *gate[1:]), gate])
-        elif gate[0] == "deal":
-            gate = luck.choice([gate[:4] + (gate[4] * 2 if len(gate[4]) < 4 else gate[4],),
-                                ("deal", gate[1], gate[3], gate[2], gate[4])])
-        elif gate[0] == "cross":
-            gate = luck.choice([("cross", gate[2], gate[1], gate[3], gate[4]), gate[:3] + (gate[4], gate[3])])
-        elif gate[0] == "join":
-            gate = ("join", gate[2], gate[1], *gate[3:])
-        gates[at] = gate
-    return Web(web.inlets(), gates)
 
 
 class Alike(unittest.TestCase):

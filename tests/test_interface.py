@@ -28,6 +28,15 @@ FUNCTIONS = {
     "likes": ["is_of(web, kinds, feed)"],
     "alike": ["alike(one, other, couples, *, kinds=None)"],
     "rises": ["rises(web, lane, *, kinds=None)"],
+    "alikelooks": ["shows_alike(one, other, couples, thing, *, kinds=None)"],
+    "riselooks": ["shows_rises(web, lane, thing, *, kinds=None)"],
+    "machines": ["machine(web, lanes)"],
+    "kinds": ["greatest_kind(web, lane)", "greatest_at(web, lane, inlet, *, kinds=None)",
+              "shows_greatest(web, lane, thing)", "shows_greatest_at(web, lane, inlet, thing, *, kinds=None)"],
+    "holds": ["least_hold(web, lane, *, kinds=None)", "shows_hold(web, lane, thing, *, kinds=None)",
+              "held(web, lane, most, out)"],
+    "terms": ["hangs_on(course, lane, beat)", "term(course, lane, beat)", "by_term(highs, feed)",
+              "can_come(highs)"],
 }
 CLASSES = {
     "webs": ("Web(inlets, gates=())", ["inlets()", "gates()", "lanes()", "outlets()", "common()", "sources(lane)",

@@ -7,6 +7,8 @@ from holdgates.bones import jam
 from holdgates.courses import Course
 from holdgates.errors import TooLong
 from holdgates.feeds import bits
+from holdgates.holds import held, least_hold
+from holdgates.kinds import greatest_kind
 from holdgates.likes import is_of
 from holdgates.plain import plain
 from holdgates.rises import rises
@@ -97,3 +99,44 @@ class Promise(unittest.TestCase):
                 self.assertEqual(row[-1], 0)
                 self.assertIn(1, row)
         self.assertTrue(min(many.values()) > 40, many)
+
+    def test_what_a_least_hold_holds_back_rises_by_all_numbers(self):
+        luck, many = luck_of(95), 0
+        for _ in range(200):
+            web = made_web(luck, luck.randint(0, 3), most=4, inlets=luck.choice([1, 2]))
+            lane, kinds = luck.choice(web.outlets()), tuple(luck.choice([0, 1, 2, 3]) for _ in web.inlets())
+            if refusal(least_hold, web, lane, kinds=kinds):
+                continue
+            told = least_hold(web, lane, kinds=kinds)
+            if told[0] == "never" or told[1] > 8:
+                continue
+            many += 1
+            for _ in range(5):
+                feed = made_feed_of(luck, web, kinds, 60)
+                row = row_of(Course(held(web, lane, told[1], "held")), feed, 60, "held")
+                self.assertEqual(row, sorted(row))
+                # No number has more greater ones ahead of it.
+                row = row_of(Course(web), feed, 60, lane)
+                ahead = [sum(other > number for other in row[:at]) for at, number in enumerate(row)]
+                self.assertTrue(max(ahead, default=0) <= told[1])
+        self.assertTrue(many > 40, many)
+
+    def test_all_numbers_rise_by_the_greatest_kind(self):
+        luck, many = luck_of(96), 0
+        for _ in range(150):
+            web = made_web(luck, luck.randint(0, 3), words=("hold", "lag", "deal", "cross"), most=6)
+            lane = luck.choice(web.lanes())
+            if refusal(greatest_kind, web, lane):
+                continue
+            kind, _, fall = greatest_kind(web, lane)
+            if kind == "never":
+                continue
+            many += 1
+            kinds = (kind,) * len(web.inlets())
+            for _ in range(5):
+                row = row_of(Course(web), made_feed_of(luck, web, kinds, 60), 60, lane)
+                self.assertEqual(row, sorted(row))
+            if fall is not None:
+                row = row_of(Course(web), fall[2], fall[1], lane)
+                self.assertNotEqual(row, sorted(row))
+        self.assertTrue(many > 40, many)
