@@ -99,8 +99,8 @@ def _is_never(marked, place, thing):
     turned, tokens = _gone(marked, place, node, again)
     if turned != node or 1 not in tokens:
         return False
-    last, tokens = _gone(marked, place, node, behind)
-    return last is not None and len(tokens) > 0 and tokens[-1] == 0
+    _, tokens = _gone(marked, place, node, behind)
+    return len(tokens) > 0 and tokens[-1] == 0
 
 
 def _gone(marked, place, node, choices):

@@ -31,9 +31,7 @@ class Marked:
         return found
 
     def is_node(self, thing):
-        """Whether a thing has the form of a small stand with marks."""
-        if not isinstance(thing, tuple) or len(thing) != 3:
-            return False
+        """Whether a tuple of three has the form of a small stand with marks."""
         return is_small(self._web, thing[:2]) and are_marks(self._kinds, thing[2])
 
 

@@ -166,6 +166,9 @@ class Shows(unittest.TestCase):
         for beat, due in [(1999, True), (2000, False), (2001, True), (2003, False), (0, False), (True, False)]:
             feed = (tuple([5] * ((beat + 1) // 2)),)
             self.check(ODD, ODD, [("a", "b")], ("parts", beat, 0, feed), None, due)
+        even = Web([("a", "-x")], [("deal", "a", "c", "b", "l")])
+        for beat, due in [(2000, True), (2002, False)]:
+            self.assertIs(shows_alike(even, even, [("a", "b")], ("parts", beat, 0, ((5,) * (beat // 2),))), due)
         # Of each beat one number there can't be 2001 of a row.
         web = Web([("a", "x")], [("deal", "a", "c", "b", "l")])
         self.assertIs(shows_alike(web, web, [("a", "b")], ("parts", 2000, 0, ((5,) * 2000,))), True)

@@ -201,11 +201,11 @@ class Looks(unittest.TestCase):
         self.assertEqual((kind, rise), ("never", None))
         self.assertIs(shows_greatest(never, "h", ("never", None, fall)), True)
         for thing in [("never", fall, fall), ("never", None, None), (0, None, fall), (0, fall, fall), (None, fall, None),
-                      ("never", (), fall), ("Never", None, fall)]:
+                      ("never", (), fall), ("Never", None, fall), (-1, None, fall), (False, None, fall)]:
             self.assertIs(shows_greatest(never, "h", thing), False)
         kind, rise, fall = greatest_kind(NEVER, "c")
         for thing, due in [((None, rise, None), True), ((None, rise, rise), False), ((None, None, None), False),
-                           ((8, rise, None), False), (("never", None, rise), False), ((None, rise, ()), False)]:
+                           ((8, rise, None), False), ((9, rise, None), False), (("never", None, rise), False), ((None, rise, ()), False)]:
             self.assertIs(shows_greatest(NEVER, "c", thing), due)
         last = Web([("a", "x")], [("hold", "a", "b", 9, 0)])
         kind, rise, fall = greatest_kind(last, "b")

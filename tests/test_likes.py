@@ -21,7 +21,7 @@ def is_kind(thing):
 class IsOf(unittest.TestCase):
     def test_one_inlet(self):
         for kind, row, due in [
-                (0, (), True), (0, (5,), True), (0, (1, 1, 2), True), (0, (2, 1), False), (0, (-3, -3, -2, -3), False),
+                (0, (), True), (0, (5,), True), (0, (1, 1, 2), True), (0, (2, 1), False), (0, (-3, -3, -2, -3), False), (0, (-3, -3, -2), True),
                 (1, (2, 1), True), (1, (2, 1, 2), True), (1, (2, 1, 1), False), (1, (2, 2, 1), False),
                 (1, (1, 3, 2, 4, 3, 5), True), (2, (3, 2, 1), True), (2, (3, 2, 2), True), (2, (4, 9, 9, 3), False),
                 (2, (4, 9, 9, 4), True), (3, (5, 5, 5, 4), True), (3, (5, 4, 4, 4, 4), False), (3, (6, 0, 0, 0, 6), True),

@@ -118,6 +118,9 @@ class Shows(unittest.TestCase):
         for beat, due in [(1999, True), (2000, False), (2001, True), (2003, False), (1, False), (0, False)]:
             feed = (tuple([5] * ((beat + 1) // 2 - 1) + [4] * (beat > 0)),)
             self.check(odd, "a", ("falls", beat, feed), None, due)
+        even = Web([("a", "-x")])
+        for beat, due in [(2000, True), (2002, False)]:
+            self.assertIs(shows_rises(even, "a", ("falls", beat, ((5,) * (beat // 2 - 1) + (4,),))), due)
         self.assertIs(shows_rises(LINE, "a", ("falls", 2000, ((5,) * 1999 + (4,),))), True)
         self.assertIs(shows_rises(LINE, "a", ("falls", 2001, ((5,) * 2000 + (4,),))), False)
 
