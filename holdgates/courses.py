@@ -2,7 +2,7 @@
 
 from holdgates.errors import NoCourse
 from holdgates.gates import LIFTABLE
-from holdgates.things import are_many, is_beat, is_whole
+from holdgates.things import are_many, are_rising, is_beat, is_whole
 from holdgates.webs import Web
 
 MOST_LIFTS = 12
@@ -37,6 +37,11 @@ class Course:
         return len(words) > 0 and words[-1] == "up"
 
 
+def is_word(thing):
+    """Whether a thing is a lift's word."""
+    return isinstance(thing, str) and thing in WORDS
+
+
 def _is_lift(gates, thing):
     """Whether a thing is by itself a lift of one of the gates."""
     if not isinstance(thing, tuple) or len(thing) != 3:
@@ -44,7 +49,7 @@ def _is_lift(gates, thing):
     beat, gate, word = thing
     if not is_beat(beat) or not is_whole(gate, 0, len(gates) - 1):
         return False
-    return gates[gate][0] in LIFTABLE and word in WORDS
+    return gates[gate][0] in LIFTABLE and is_word(word)
 
 
 def _are_lifts(web, thing):
@@ -52,5 +57,4 @@ def _are_lifts(web, thing):
     gates = web.gates()
     if not are_many(thing, 0, MOST_LIFTS) or not all([_is_lift(gates, lift) for lift in thing]):
         return False
-    places = [lift[:2] for lift in thing]
-    return all([places[at] < places[at + 1] for at in range(len(places) - 1)])
+    return are_rising([lift[:2] for lift in thing])

@@ -84,7 +84,8 @@ def _is_round(thing):
 
 def _wrong_round(web, thing):
     """The number of the first part that tells no inlet's numbers, -1 of what isn't as many, or None."""
-    return first_wrong(thing, len(web.inlets()), _is_round)
+    many = len(web.inlets())
+    return first_wrong(thing, many, many, _is_round)
 
 
 def _check_rounds(web, thing):

@@ -63,4 +63,5 @@ def _is_row(thing):
 
 def _wrong_row(web, thing):
     """The number of the first row that is none of a feed's, -1 of what is no feed at all, or None."""
-    return first_wrong(thing, len(web.inlets()), _is_row)
+    many = len(web.inlets())
+    return first_wrong(thing, many, many, _is_row)

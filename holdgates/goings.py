@@ -32,6 +32,16 @@ def by_noughts(course):
     return Going(course, [((), (0,)) for _ in web.inlets()], (0, first_kept(web)))
 
 
+def rows_by(course, feed, beats):
+    """What the lanes carry in each of so many beats by a feed, whatever its tokens are."""
+    return by_feed(course, (0, first_kept(course.web())), feed).steps(beats)
+
+
+def carrying(course, beats):
+    """Which lanes carry in each of so many beats of feeds without end: those that carry noughts here."""
+    return by_noughts(course).steps(beats)
+
+
 class Going:
     """A course that goes on from a stand, fed by a (row, again) for each inlet."""
 

@@ -3,7 +3,7 @@
 from holdgates.bounds import DEEPEST, INPUTS, MOST
 from holdgates.errors import NoBeat, NoToken, TooMany
 from holdgates.feeds import takers, times_by
-from holdgates.goings import by_noughts, first_kept
+from holdgates.goings import carrying, first_kept
 from holdgates.steps import one_beat
 from holdgates.things import is_whole
 from holdgates.webs import place_of
@@ -11,17 +11,22 @@ from holdgates.webs import place_of
 
 def hangs_on(course, lane, beat):
     """The inputs, (inlet, number), that are fed by a beat and from which a lane can be come to, rising."""
+    found = inputs_at(course, lane, beat)
+    if len(found) > INPUTS:
+        raise TooMany(INPUTS)
+    return found
+
+
+def inputs_at(course, lane, beat):
+    """What a lane hangs on at a beat, however many these are."""
     web = course.web()
     place = place_of(web, lane)
     if not is_whole(beat, 1, DEEPEST):
         raise NoBeat(beat)
-    if by_noughts(course).steps(beat)[-1][place] is None:
+    if carrying(course, beat)[-1][place] is None:
         raise NoToken(lane)
     times = times_by(web, beat)
-    found = [(inlet, number) for inlet in web.sources(lane) for number in range(times[inlet])]
-    if len(found) > INPUTS:
-        raise TooMany(INPUTS)
-    return found
+    return [(inlet, number) for inlet in web.sources(lane) for number in range(times[inlet])]
 
 
 def term(course, lane, beat):

@@ -4,14 +4,27 @@ FARTHEST = 10 ** 60
 GREATEST = 10 ** 12
 
 
+class Changing:
+    """What changes by what it is told: who keeps it keeps another one that stands alike."""
+
+    def copied(self):
+        """Another one that stands alike."""
+        raise NotImplementedError("each class that changes tells its own copies")
+
+
+def is_any_whole(thing):
+    """Whether a thing is a whole number, and no truth."""
+    return isinstance(thing, int) and not isinstance(thing, bool)
+
+
 def is_whole(thing, least, most):
-    """Whether a thing is a whole number, and no truth, from least to most."""
-    return isinstance(thing, int) and not isinstance(thing, bool) and least <= thing <= most
+    """Whether a thing is a whole number from least to most."""
+    return is_any_whole(thing) and least <= thing <= most
 
 
 def is_count(thing):
     """Whether a thing is a whole number from 0 on."""
-    return isinstance(thing, int) and not isinstance(thing, bool) and thing >= 0
+    return is_any_whole(thing) and thing >= 0
 
 
 def is_bit(thing):
@@ -41,9 +54,14 @@ def are_many(thing, least, most):
     return isinstance(thing, (list, tuple)) and least <= len(thing) <= most
 
 
-def first_wrong(thing, many, is_part):
-    """-1 of what is no list or tuple of so many, else the place of the first that is no part, or None."""
-    if not are_many(thing, many, many):
+def are_rising(parts):
+    """Whether each part is more than the one ahead of it."""
+    return all([parts[at] < parts[at + 1] for at in range(len(parts) - 1)])
+
+
+def first_wrong(thing, least, most, is_part):
+    """-1 of what is no list or tuple of least to most, else the place of the first that is no part, or None."""
+    if not are_many(thing, least, most):
         return -1
     for at, part in enumerate(thing):
         if not is_part(part):
@@ -52,7 +70,9 @@ def first_wrong(thing, many, is_part):
 
 
 def copied(thing):
-    """A copy of a thing, within its lists, tuples and dicts too; things of the interface stay as they are."""
+    """A copy of a thing, within its lists, tuples and dicts too; what never changes stays as it is."""
+    if isinstance(thing, Changing):
+        return thing.copied()
     if isinstance(thing, tuple):
         return tuple([copied(part) for part in thing])
     if isinstance(thing, list):

@@ -81,7 +81,7 @@ def place_of(web, lane):
     return lanes.index(lane)
 
 
-def _is_inlet(thing):
+def is_inlet(thing):
     """Whether a thing is by itself an inlet."""
     return isinstance(thing, tuple) and len(thing) == 2 and is_name(thing[0]) and is_rhythm(thing[1])
 
@@ -92,7 +92,7 @@ def _check_inlets(inlets):
         raise NoWeb("inlets", -1)
     lanes = []
     for at, inlet in enumerate(inlets):
-        if not _is_inlet(inlet) or inlet[0] in lanes:
+        if not is_inlet(inlet) or inlet[0] in lanes:
             raise NoWeb("inlets", at)
         lanes.append(inlet[0])
 

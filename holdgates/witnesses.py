@@ -3,7 +3,7 @@
 from holdgates.bounds import STANDS
 from holdgates.courses import Course
 from holdgates.feeds import is_feed, times_by
-from holdgates.goings import by_feed, first_kept
+from holdgates.goings import rows_by
 from holdgates.likes import is_of
 from holdgates.things import is_whole
 
@@ -22,8 +22,7 @@ def is_witness(web, kinds, beat, feed):
 
 def tokens_by(web, place, feed, beat):
     """What the lane at a place carries by a feed, beat by beat, up to a beat, however late."""
-    rows = by_feed(Course(web), (0, first_kept(web)), feed).steps(beat)
-    return [row[place] for row in rows]
+    return [row[place] for row in rows_by(Course(web), feed, beat)]
 
 
 def is_behind_greater(tokens, many):

@@ -4,11 +4,14 @@ import copy
 import itertools
 import random
 
+from holdgates import errors
 from holdgates.courses import Course
+from holdgates.desk import Desk
 from holdgates.errors import Jams, TooLong, TooMany
-from holdgates.feeds import cut, is_endless, is_feed
+from holdgates.feeds import cut, is_endless, is_feed, times_by
 from holdgates.likes import is_of
 from holdgates.webs import Web
+from holdgates.yard import Yard
 
 LINE = Web([("a", "x")])
 TWO = Web([("a", "x"), ("b", "x-")], [("hold", "a", "c", 2, 1), ("cross", "b", "c", "d", "e")])
@@ -22,6 +25,14 @@ def deep(levels, inner):
     return thing
 
 
+def made_desk():
+    """A desk with a web, a stream and a deed taken back."""
+    desk = Desk()
+    for row in ["web a\ninlet a x", "stream b a", "step b 5", "step b ?", "undo"]:
+        desk.say(row)
+    return desk
+
+
 def anything():
     """Things of all sorts that may be handed in where "of anything" stands, made anew."""
     return [
@@ -31,7 +42,7 @@ def anything():
         ("a", "x"), ["a", "x"], (("a", "x"),), [["a", "x"]], ((), ()), [(), ()], ([],), ({},),
         (True, True), (0, ()), (0, []), (0, ((),)), ((1, 2), (3,)), (((), (1,)),),
         ("hold", "a", "b", 1, 0), deep(10, 1), deep(9, None),
-        LINE, TWO, Course(LINE), (LINE,), [Course(TWO)],
+        LINE, TWO, Course(LINE), (LINE,), [Course(TWO)], Yard(), made_desk(), made_desk().yard(), [made_desk().yard()],
     ]
 
 
@@ -66,28 +77,43 @@ def lists_of(thing):
 
 
 def inner(thing):
-    """What webs and courses tell of themselves; of other things themselves."""
+    """What webs, courses and yards tell of themselves; of other things themselves."""
     if isinstance(thing, Course):
         return inner(thing.web()), thing.lifts()
+    if isinstance(thing, Yard):
+        return [inner(part) for deed in thing.deeds() for part in deed], thing.names()
     return (thing.inlets(), thing.gates()) if isinstance(thing, Web) else thing
 
 
-def unchanged(call, *told):
+def unchanged(call, *told, **more):
     """What a call tells twice alike, having changed nothing that was handed in.
 
     What it tells first is emptied, as it is the asker's own.
     """
-    before = copy.deepcopy([inner(thing) for thing in told])
-    answer = call(*told)
+    given = [*told, *more.values()]
+    before = copy.deepcopy([inner(thing) for thing in given])
+    answer = call(*told, **more)
     kept = copy.deepcopy(answer)
     for found in lists_of(answer):
         found.clear()
-    again = call(*told)
+    again = call(*told, **more)
     if not equal_kinds(kept, again):
         raise AssertionError("who asks the same is told something else")
-    if not equal_kinds(before, [inner(thing) for thing in told]):
+    if not equal_kinds(before, [inner(thing) for thing in given]):
         raise AssertionError("what was handed in is changed")
     return again
+
+
+ALL_REFUSALS = tuple(thing for thing in vars(errors).values() if isinstance(thing, type))
+
+
+def due(ask, *told, **more):
+    """What is refused: its class and its fields, (class, field, ..); None where nothing is."""
+    try:
+        ask(*told, **more)
+    except ALL_REFUSALS as refused:
+        return type(refused), *vars(refused).values()
+    return None
 
 
 def refusal(ask, *told, **more):
@@ -454,6 +480,28 @@ def hand_run(course, feed, beats):
     return rows, None
 
 
+def shown_by(course, feed, beat, lane):
+    """What a lane carries at a beat by a feed, by hand."""
+    return hand_run(course, feed, beat)[0][beat - 1][course.web().lanes().index(lane)]
+
+
+def are_shown(course, feed, sightings):
+    """By hand: whether a feed shows all sightings."""
+    rows, _ = hand_run(course, feed, max((beat for beat, _, _ in sightings), default=0))
+    lanes = course.web().lanes()
+    return all(rows[beat - 1][lanes.index(lane)] == number for beat, lane, number in sightings)
+
+
+def parts_by(web, beat):
+    """All inputs, (inlet, number), up to a beat, in order."""
+    return [(inlet, at) for inlet, many in enumerate(times_by(web, beat)) for at in range(many)]
+
+
+def fed_by(web, beat, numbers):
+    """The feed up to a beat that has these numbers, a dict by inputs, noughts else."""
+    return tuple(tuple(numbers.get((inlet, at), 0) for at in range(many)) for inlet, many in enumerate(times_by(web, beat)))
+
+
 def run_by_hand(web, feed, beats):
     """What each beat carries by hand, of a web without lifts that doesn't jam."""
     hand = Hand(web.inlets(), web.gates(), [], by_feed(feed))
@@ -580,3 +628,333 @@ def jam_at(beat):
     deals = [("deal", "b", "c", "d", "rrrrl"), ("deal", "c", "e", "f", "rrrrl"), ("deal", "e", "g", "h", "rl")]
     late = [("lag", "g", "i", 1)] if beat == 601 else []
     return Web([("a", "x"), ("b", "x")], [*deals, *late, ("join", "a", "i" if late else "g", "j", 11)])
+
+
+class Cases:
+    """Boxes of sightings by hand: by the document's words, through noughts and ones. A box is a dict by the inputs."""
+
+    def __init__(self, course, sightings, given=()):
+        self.course, self.sightings = course, list(sightings)
+        self.last = max((beat for beat, _, _ in sightings), default=0)
+        self.all = parts_by(course.web(), self.last)
+        self.given = {(inlet, at): number for inlet, at, number in given}
+        self.inputs = [part for part in self.all if part not in self.given]
+        self.rows = {}
+
+    def token(self, box, number, of_span, of_given):
+        """What the sighting's lane brings where inputs are ones by their spans, or by their given numbers."""
+        ones = {part: int(of_given(self.given[part]) if part in self.given else of_span(box[part])) for part in self.all}
+        feed = fed_by(self.course.web(), self.last, ones)
+        if feed not in self.rows:
+            self.rows[feed] = hand_run(self.course, feed, self.last)[0]
+        beat, lane, _ = self.sightings[number]
+        return self.rows[feed][beat - 1][self.course.web().lanes().index(lane)]
+
+    def is_fit(self, box, number):
+        sought = self.sightings[number][2]
+        reached = self.token(box, number, lambda span: span[0] is not None and span[0] >= sought,
+                             lambda told: told >= sought)
+        passed = self.token(box, number, lambda span: span[1] is None or span[1] > sought, lambda told: told > sought)
+        return reached == 1 and passed == 0
+
+    def is_missed(self, box, number):
+        sought = self.sightings[number][2]
+        reached = self.token(box, number, lambda span: span[1] is None or span[1] >= sought,
+                             lambda told: told >= sought)
+        passed = self.token(box, number, lambda span: span[0] is not None and span[0] > sought,
+                            lambda told: told > sought)
+        return reached == 0 or passed == 1
+
+    def whole(self):
+        return {part: (None, None) for part in self.inputs}
+
+    def tree(self, most=10 ** 6):
+        """(nodes, boxes that fit, how many leaves) of the told tree; None of more leaves than most."""
+        nodes, fits, leaves = [], [], []
+
+        def grow(box):
+            number, many = len(nodes), range(len(self.sightings))
+            missed = [at for at in many if self.is_missed(box, at)]
+            unfit = [at for at in many if not self.is_fit(box, at)]
+            nodes.append(("out", missed[0]) if missed else ("fits",))
+            if missed or not unfit:
+                leaves.append(number)
+                if not missed:
+                    fits.append(tuple(box.values()))
+                return len(leaves) <= most
+            sought = self.sightings[unfit[0]][2]
+            part, cut = next((part, cut) for cut in (sought, sought + 1) for part in self.inputs
+                             if has_below(box[part], cut) and has_from(box[part], cut))
+            if not grow({**box, part: (box[part][0], cut - 1)}):
+                return False
+            right = len(nodes)
+            nodes[number] = ("split", part, cut, number + 1, right)
+            return grow({**box, part: (cut, box[part][1])})
+        return (nodes, fits, len(leaves)) if grow(self.whole()) else None
+
+    def is_tree(self, thing):
+        """By the document's words: whether a thing is a tree of cases for these sightings."""
+        if type(thing) is not list or not thing:
+            return False
+        led = []
+        for at, node in enumerate(thing):
+            if type(node) is not tuple or not node or node[0] not in ("split", "fits", "out") or type(node[0]) is not str:
+                return False
+            if len(node) != {"split": 5, "fits": 1, "out": 2}[node[0]]:
+                return False
+            if node[0] == "split":
+                if not any(equal_kinds(node[1], part) for part in self.inputs):
+                    return False
+                if any(type(part) is not int for part in node[2:]) or not all(at < to < len(thing) for to in node[3:]):
+                    return False
+                led.extend(node[3:])
+            if node[0] == "out" and (type(node[1]) is not int or not 0 <= node[1] < len(self.sightings)):
+                return False
+        return sorted(led) == list(range(1, len(thing))) and self.is_case(thing, 0, self.whole())
+
+    def is_case(self, thing, at, box):
+        node = thing[at]
+        if node[0] == "fits":
+            return all(self.is_fit(box, number) for number in range(len(self.sightings)))
+        if node[0] == "out":
+            return self.is_missed(box, node[1])
+        _, part, cut, left, right = node
+        if not has_below(box[part], cut) or not has_from(box[part], cut):
+            return False
+        return (self.is_case(thing, left, {**box, part: (box[part][0], cut - 1)})
+                and self.is_case(thing, right, {**box, part: (cut, box[part][1])}))
+
+
+def has_below(span, number):
+    """By hand: whether a span has numbers below a number."""
+    return span[0] is None or span[0] < number
+
+
+def has_from(span, number):
+    """By hand: whether a span has numbers from a number on."""
+    return span[1] is None or span[1] >= number
+
+
+def lies_in(box, numbers):
+    """By hand: whether numbers lie in a box."""
+    return all((low is None or low <= number) and (high is None or number <= high)
+               for (low, high), number in zip(box, numbers))
+
+
+def made_sightings(luck, course, most=3, last=8, wide=3, inputs=4):
+    """(sightings, given, a feed that shows them, or all but some) by luck, of at most so many inputs; None where none."""
+    web = course.web()
+    beats = luck.randint(1, last)
+    feed = tuple(tuple(luck.randint(0, wide) for _ in range(many)) for many in times_by(web, beats))
+    rows, jam = hand_run(course, feed, beats)
+    seen = [(beat + 1, lane, token) for beat, row in enumerate(rows) for lane, token in zip(web.lanes(), row)
+            if token is not None]
+    if jam is not None or not seen:
+        return None
+    outs = [sight for sight in seen if sight[1] in web.outlets()] or seen
+    told = [luck.choice(luck.choice([seen, outs])) for _ in range(luck.randint(1, most))]
+    if luck.random() < 0.4:
+        at = luck.randrange(len(told))
+        told[at] = told[at][:2] + (told[at][2] + luck.choice([-1, 1]),)
+    parts = parts_by(web, max(beat for beat, _, _ in told))
+    free = luck.sample(parts, min(len(parts), luck.randint(0, inputs)))
+    given = [(inlet, at, feed[inlet][at]) for inlet, at in parts if (inlet, at) not in free]
+    return told, given, feed
+
+
+class HandStream:
+    """A stream by hand: its web's name, its lifts, its rows and its looks."""
+
+    def __init__(self, of, web):
+        self.of, self.lifts, self.rows, self.looks, self.beat = of, [], [[] for _ in web.inlets()], [], 0
+
+    def course(self, web):
+        return Course(web, lifts=sorted(self.lifts))
+
+    def hidden(self):
+        return [(inlet, at) for inlet, row in enumerate(self.rows) for at, number in enumerate(row) if number is None]
+
+    def cases(self, web):
+        """Its looks as sightings by hand, what was pushed by the last one's beat being given."""
+        times = times_by(web, max([beat for beat, _, _ in self.looks], default=0))
+        given = [(inlet, at, number) for inlet, row in enumerate(self.rows) for at, number in enumerate(row)
+                 if number is not None and at < times[inlet]]
+        return Cases(self.course(web), self.looks, given)
+
+    def fed(self, numbers):
+        """Its rows, its hidden inputs having these numbers."""
+        told = dict(zip(self.hidden(), numbers))
+        return tuple(tuple(told.get((inlet, at), number) for at, number in enumerate(row)) for inlet, row in enumerate(self.rows))
+
+    def carries(self, web, lane, beat):
+        """Whether a lane carries at a beat, by noughts."""
+        return beat > 0 and shown_by(self.course(web), fed_by(web, beat, {}), beat, lane) is not None
+
+
+class HandYard:
+    """A yard by hand, by the document's words."""
+
+    def __init__(self):
+        self.named, self.done, self.undone = {}, [], []
+
+    def run(self, deeds):
+        """The refusal that is due, having done nothing, or None."""
+        named = copy.deepcopy(self.named)
+        for nth, deed in enumerate(deeds):
+            refused = self.does(named, deed)
+            if refused:
+                return (errors.NoDeed, nth) if refused == "no deed" else refused
+        self.done.append((list(deeds), self.named))
+        self.named, self.undone = named, []
+        return None
+
+    def undo(self):
+        if self.done:
+            deeds, before = self.done.pop()
+            self.undone.append((deeds, self.named))
+            self.named = before
+            return True
+        return False
+
+    def redo(self):
+        if self.undone:
+            deeds, after = self.undone.pop()
+            self.done.append((deeds, self.named))
+            self.named = after
+            return True
+        return False
+
+    def deeds(self):
+        return [deed for deeds, _ in self.done for deed in deeds]
+
+    def does(self, named, deed):
+        word, name = deed[0], deed[1] if len(deed) > 1 else None
+        if word not in ("web", "stream", "step", "lift", "look", "tell", "twin", "change", "drop"):
+            return "no deed"
+        new = {"web": name, "stream": name, "twin": deed[-1]}.get(word)
+        if new is not None and len(named) >= 20:
+            return errors.Full, 20
+        if new is not None and new in named:
+            return errors.Taken, new
+        asked = {"web": None, "stream": deed[-1]}.get(word, name)
+        kind = Web if word in ("stream", "change") else HandStream
+        if asked is not None and (asked not in named or word != "drop" and not isinstance(named[asked], kind)):
+            return errors.NoName, asked
+        return getattr(self, word)(named, *deed[1:])
+
+    def web(self, named, name, web):
+        named[name] = web
+
+    def stream(self, named, name, of):
+        named[name] = HandStream(of, named[of])
+
+    def step(self, named, name, numbers):
+        stream, web = named[name], named[named[name].of]
+        beat = stream.beat + 1
+        inlets = [at for at, (_, rhythm) in enumerate(web.inlets()) if (rhythm * beat)[beat - 1] == "x"]
+        if beat > 40:
+            return errors.Full, 40
+        if len(numbers) != len(inlets):
+            return errors.Due, len(inlets)
+        if len(stream.hidden()) + list(numbers).count(None) > 6:
+            return errors.Full, 6
+        if hand_run(stream.course(web), fed_by(web, beat, {}), beat)[1]:
+            return errors.Jams, beat
+        for inlet, number in zip(inlets, numbers):
+            stream.rows[inlet].append(number)
+        stream.beat = beat
+
+    def lift(self, named, name, gate, word):
+        stream, gates = named[name], named[named[name].of].gates()
+        if gate not in range(len(gates)) or gates[gate][0] not in ("hold", "wait", "cross"):
+            return errors.NoGate, gate
+        others = [told for told in stream.lifts if told[:2] != (stream.beat, gate)]
+        if len(others) > 11:
+            return errors.Full, 12
+        stream.lifts = others + [(stream.beat, gate, word)]
+
+    def look(self, named, name, lane, number):
+        stream, web = named[name], named[named[name].of]
+        if lane not in web.lanes():
+            return errors.NoLane, lane
+        if not stream.carries(web, lane, stream.beat):
+            return errors.NoToken, lane
+        if len(stream.looks) > 7:
+            return errors.Full, 8
+        stream.looks.append((stream.beat, lane, number))
+        return self.seen(name, stream, web)
+
+    def tell(self, named, name, inlet, nth, number):
+        stream, web = named[name], named[named[name].of]
+        if (inlet, nth) not in stream.hidden():
+            return errors.NoInput, inlet, nth
+        stream.rows[inlet][nth] = number
+        return self.seen(name, stream, web)
+
+    def seen(self, name, stream, web):
+        told = stream.cases(web).tree(200)
+        if told is None:
+            return errors.TooMany, 200
+        return None if told[1] else (errors.Unseen, name)
+
+    def twin(self, named, name, other):
+        named[other] = copy.deepcopy(named[name])
+
+    def change(self, named, name, web):
+        if [rhythm for _, rhythm in web.inlets()] != [rhythm for _, rhythm in named[name].inlets()]:
+            return errors.Unfit, name
+        streams = [key for key, thing in named.items() if isinstance(thing, HandStream) and thing.of == name]
+        gates = web.gates()
+        for key in streams:
+            stream = named[key]
+            if any(gate >= len(gates) or gates[gate][0] not in ("hold", "wait", "cross") for _, gate, _ in stream.lifts):
+                return errors.Unfit, key
+            if hand_run(stream.course(web), fed_by(web, stream.beat, {}), stream.beat)[1]:
+                return errors.Unfit, key
+            if not all(lane in web.lanes() and stream.carries(web, lane, beat) for beat, lane, _ in stream.looks):
+                return errors.Unfit, key
+        for key in streams:
+            refused = self.seen(key, named[key], web)
+            if refused:
+                return refused
+        named[name] = web
+
+    def drop(self, named, name):
+        if any(isinstance(thing, HandStream) and thing.of == name for thing in named.values()):
+            return errors.Needed, name
+        del named[name]
+
+
+def made_deed(luck, yard, names="abcdefg", wide=3):
+    """A deed for a yard by luck, often one that can be done."""
+    there = yard.names()
+    streams = [name for name in there if due(yard.web, name)]
+    webs = [name for name in there if name not in streams]
+    word = luck.choice(["web", "stream", "lift", "tell", "twin", "change", "drop"] + ["step"] * 8 + ["look"] * 4)
+    if not webs or word == "web":
+        return ("web", luck.choice(names), made_web(luck, luck.randint(0, 4), most=4, inlets=luck.choice([1, 1, 2])))
+    if word == "change":
+        web = yard.web(luck.choice(webs))
+        return ("change", luck.choice(webs), luck.choice([other_of(luck, web), made_web(luck, 2, inlets=1)]))
+    if not streams or word == "stream":
+        return ("stream", luck.choice(names), luck.choice(webs))
+    if word == "drop":
+        return ("drop", luck.choice(there))
+    name = luck.choice(streams * 20 + list(names))
+    if due(yard.now, name):
+        return (luck.choice([("step", name, (1,)), ("twin", name, "z"), ("look", name, "a", 1), ("lift", name, 0, "up")]))
+    if word == "twin":
+        return ("twin", name, luck.choice(names))
+    if word == "lift":
+        return ("lift", name, luck.randint(0, 3), luck.choice(["up", "down"]))
+    if word == "tell":
+        return ("tell", name, *luck.choice((yard.hidden(name) or [(0, 0)]) * 5 + [(1, 1)]), luck.randint(0, wide))
+    if word == "look":
+        lane = luck.choice(yard.course(name).web().lanes())
+        span = yard.carried(name, lane) if yard.now(name) else None
+        low, high = span or (0, 0)
+        low, high = 0 if low is None else low, wide if high is None else high
+        inner_number = luck.randint(min(low, high), max(low, high))
+        return ("look", name, lane, luck.choice([low, high, inner_number, luck.randint(-1, wide)]))
+    many = len(yard.due(name)) if luck.random() < 0.95 else 3
+    return ("step", name, tuple(luck.choice([None, luck.randint(0, wide), luck.randint(0, wide)]) for _ in range(many)))

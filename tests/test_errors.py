@@ -2,7 +2,7 @@ import inspect
 import unittest
 
 from holdgates import bounds, errors
-from tests.helper import LINE, anything, equal_kinds, holds_list, lists_of
+from tests.helper import LINE, anything, equal_kinds, holds_list, lists_of, made_desk
 
 REFUSALS = {
     ValueError: [("NoWeb", "field", "at"), ("NoCourse", "field"), ("NoFeed", "inlet"), ("NoRounds", "inlet"),
@@ -68,6 +68,19 @@ class Errors(unittest.TestCase):
     def test_things_of_the_interface_are_fields(self):
         self.assertEqual(errors.NoLane(LINE).lane, LINE)
         self.assertEqual(errors.NoLane([LINE]).lane, [LINE])
+
+    def test_yards_and_desks_are_fields_as_they_stood(self):
+        for kind in (errors.NoLane, errors.NoAsk, errors.NoLook, errors.NoDeed):
+            desk = made_desk()
+            yard = desk.yard()
+            made = kind([yard, {"a": (desk,)}])
+            told, asked = list(vars(made).values())[0][0], list(vars(made).values())[0][1]["a"][0]
+            self.assertTrue(told == yard and asked == desk)
+            yard.do(("drop", "b"))
+            desk.say("drop b")
+            self.assertEqual((told.names(), asked.say("names")), (["a", "b"], "a b"))
+            # With what was taken back.
+            self.assertEqual((told.redo(), asked.say("redo")), (True, "ok"))
 
     def test_raised_and_caught(self):
         for above, refusal, fields in ALL:
