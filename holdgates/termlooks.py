@@ -59,7 +59,8 @@ def _is_set(parts, thing):
 
 def _is_input(parts, thing):
     """Whether a thing is one of the inputs."""
-    if not isinstance(thing, tuple) or len(thing) != 2 or not all([is_count(part) for part in thing]):
+    # A truth is equal to a number, and what can't be a key mustn't be asked for.
+    if not isinstance(thing, tuple) or not all([is_count(part) for part in thing]):
         return False
     return thing in parts
 

@@ -44,7 +44,8 @@ def _is_split(box, node):
 
 def _is_input(box, thing):
     """Whether a thing is an input of which a box tells."""
-    if not isinstance(thing, tuple) or len(thing) != 2 or not all([is_count(part) for part in thing]):
+    # A truth is equal to a number, and what can't be a key mustn't be asked for.
+    if not isinstance(thing, tuple) or not all([is_count(part) for part in thing]):
         return False
     return thing in box
 

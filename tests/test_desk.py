@@ -201,6 +201,17 @@ class Yards(unittest.TestCase):
         self.assertIs(again.redo(), False)
 
 
+class Equal(unittest.TestCase):
+    def test_equal_where_their_yards_are(self):
+        self.assertTrue(Desk() == Desk())
+        self.assertTrue(streams("step s 1") == streams("step s 1"))
+        self.assertTrue(streams() != streams("step s 1"))
+        for thing in anything():
+            self.assertIs(Desk() == thing, False)
+        self.assertFalse(Desk() == Yard())
+        self.assertFalse(Yard() == Desk())
+
+
 class Refused(unittest.TestCase):
     def refused(self, desk, row, *found):
         """A row is refused so, and all is as it was, also what was taken back."""

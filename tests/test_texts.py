@@ -4,6 +4,7 @@ import unittest
 from holdgates.courses import Course
 from holdgates.errors import NoCourse, NoWeb, Unread
 from holdgates.feeds import is_feed
+from holdgates.figures import number_in, word_of
 from holdgates.runs import run
 from holdgates.texts import read_course, read_feed, read_web, show_course, show_feed, show_web
 from holdgates.webs import Web
@@ -223,7 +224,8 @@ class Courses(unittest.TestCase):
             self.assertTrue(equal_kinds(due(read_course, TEXT + more), (Unread, row)), more)
         self.assertIsNone(due(read_course, TEXT + "".join(f"\nlift {at} 0 up" for at in range(12))))
         for text, row in [
-                ("", 0), ("lift 0 0 up", 0), ("inlet a x\nlift 0 0 up", 2), ("wait a b 0\ninlet a x", 0)]:
+                ("", 0), ("lift 0 0 up", 0), ("inlet a x\nlift 0 0 up", 2), ("wait a b 0\ninlet a x", 0),
+                ("inlet a x\nlift 0 10 up", 1), ("inlet a x\nlift 0 0 UP\ninlet b x", 1), ("inlet a x\nlift b x\nwait a c 0", 1)]:
             self.assertTrue(equal_kinds(due(read_course, text), (Unread, row)))
 
 
@@ -274,3 +276,22 @@ class Feeds(unittest.TestCase):
             self.assertEqual(number, found[0], text)
             many["not"] += 1
         self.assertTrue(min(many.values()) > 50, many)
+
+
+class Figures(unittest.TestCase):
+    def test_numbers_by_any_number_of_figures(self):
+        luck = luck_of(278)
+        for size in [1, 2, 59, 60, 61, 119, 120, 121, 4300, 4301, 9000]:
+            for _ in range(5):
+                word = luck.choice("123456789") + "".join(luck.choice("0123456789") for _ in range(size - 1))
+                for sign in ("", "-"):
+                    number = number_in(sign + word)
+                    self.assertEqual(number % 10 ** 9, int((sign + word[-9:])) % 10 ** 9)
+                    self.assertEqual(word_of(number), sign + word)
+                    self.assertEqual(len(word_of(10 ** size - 1)), size)
+                    self.assertEqual(word_of(10 ** size), "1" + "0" * size)
+        for number in [0, 1, -1, 9, 10, -10, 10 ** 60 - 1, 10 ** 60, 10 ** 60 + 1, -10 ** 60, 10 ** 120]:
+            self.assertEqual(word_of(number), str(number))
+            self.assertTrue(equal_kinds(number_in(str(number)), number))
+        for word in ["", "-", "-0", "00", "01", "-01", "+1", "1-", "--1", "1.0", "1_0", " 1", "1 ", "a", "\u0661", "\u00b2", "1\n"]:
+            self.assertIsNone(number_in(word), word)

@@ -111,7 +111,13 @@ class Looks(unittest.TestCase):
                 ([("split", (0, 0), 5, 1, 2), out, ("split", (0, 0), 6, 3, 2), fits], False),
                 ([("split", (0, 0), 5, 1, 2), out, ("split", (0, 0), 6, 3, 0), fits], False),
                 ([("split", (0, 0), 5, 1, 2), out, ("split", (0, 0), 6, 3, 5), fits, out], False),
-                ([("split", (0, 0), 5, -4, 2), out, ("split", (0, 0), 6, 3, 4), fits, out], False)]:
+                ([("split", (0, 0), 5, -4, 2), out, ("split", (0, 0), 6, 3, 4), fits, out], False),
+                # What is left has a leaf for each box that one of its children would have.
+                ([("split", (0, 0), 6, 1, 1), out], False), ([("split", (0, 0), 6, 0, 1), out], False),
+                ([("split", (0, 0), 6, -1, 1), out], False), ([("split", (0, 0), 6, -2, 1), out], False),
+                ([("split", (0, 0), 5, 1, 2), ("split", (0, 0), 4, 3, 4), ("split", (0, 0), 6, 5, 3), out, out, fits], False),
+                ([("split", (0, 0), 5, 1, 2), ("split", (0, 0), 4, 3, 4), ("split", (0, 0), 6, 5, 6), out, out, fits, out], True),
+                ([("split", (0, 0), 5, 1, 2), out, ("split", (0, 0), 6, 3, 1), fits], False)]:
             self.assertIs(Cases(LINE, SIGHT).is_tree(thing), right)
             self.is_shown(right, LINE, SIGHT, thing)
 
