@@ -3,11 +3,12 @@
 import copy
 import itertools
 import random
+import re
 
 from holdgates import errors
 from holdgates.courses import Course
 from holdgates.desk import Desk
-from holdgates.errors import Jams, TooLong, TooMany
+from holdgates.errors import Jams, NoCourse, NoWeb, TooLong, TooMany, Unread
 from holdgates.feeds import cut, is_endless, is_feed, times_by
 from holdgates.likes import is_of
 from holdgates.webs import Web
@@ -958,3 +959,154 @@ def made_deed(luck, yard, names="abcdefg", wide=3):
         return ("look", name, lane, luck.choice([low, high, inner_number, luck.randint(-1, wide)]))
     many = len(yard.due(name)) if luck.random() < 0.95 else 3
     return ("step", name, tuple(luck.choice([None, luck.randint(0, wide), luck.randint(0, wide)]) for _ in range(many)))
+
+
+# A course, and sightings and given numbers by how many leaves their told tree has.
+HOLDS = Course(Web([("a", "x")], [("hold", "a", "b", 3, 1), ("hold", "b", "c", 2, 1)]))
+LEAVES = {
+    199: ([(8, "c", 1), (5, "b", 1), (7, "c", 0)], [(0, 5, 3)]),
+    200: ([(6, "c", 0), (6, "b", 0), (6, "c", 3)], []),
+    201: ([(6, "c", 3), (6, "b", 1), (6, "c", 3)], []),
+    205: ([(7, "c", 3), (6, "b", 0), (6, "c", 1)], [(0, 3, 0)]),
+}
+
+
+def leaf_of(tree, numbers):
+    """The leaf to which numbers lead, a dict by inputs."""
+    node = tree[0]
+    while node[0] == "split":
+        node = tree[node[3] if numbers[node[1]] < node[2] else node[4]]
+    return node
+
+
+def other_tree(luck, cases, most=150):
+    """Another tree of cases by luck: inputs are split in any order, and nodes stand in any order behind their own."""
+    numbers = sorted({number + more for _, _, number in cases.sightings for more in (-1, 0, 1, 2)})
+    nodes, line = [None], [(0, cases.whole())]
+    while line:
+        at, box = line.pop(luck.randrange(len(line)))
+        missed = [number for number in range(len(cases.sightings)) if cases.is_missed(box, number)]
+        if missed:
+            nodes[at] = ("out", luck.choice(missed))
+            continue
+        if all(cases.is_fit(box, number) for number in range(len(cases.sightings))) and luck.random() < 0.9:
+            nodes[at] = ("fits",)
+            continue
+        cuts = [(part, cut) for part in cases.inputs for cut in numbers + [10 ** 40]
+                if has_below(box[part], cut) and has_from(box[part], cut)]
+        if not cuts or len(nodes) > most:
+            return None
+        part, cut = luck.choice([cut for cut in cuts if cut[1] < 10 ** 40 or luck.random() < 0.1] or cuts)
+        left, right = luck.sample([len(nodes), len(nodes) + 1], 2)
+        nodes[at] = ("split", part, cut, left, right)
+        nodes.extend([None, None])
+        line.append((left, {**box, part: (box[part][0], cut - 1)}))
+        line.append((right, {**box, part: (cut, box[part][1])}))
+    return nodes
+
+
+NAME, COUNT = "[a-z]{1,8}", "(?:0|[1-9]|1[0-2])"
+# What a row is by itself, by the document's words; lanes all unlike, and r no more than c, asked apart.
+ROW_FORMS = {
+    0: [rf"inlet ({NAME}) (?=-*x)[x-]{{1,6}}"],
+    1: [rf"hold ({NAME}) ({NAME}) {COUNT} {COUNT}", rf"wait ({NAME}) ({NAME}) {COUNT}", rf"lag ({NAME}) ({NAME}) (?!0){COUNT}",
+        rf"deal ({NAME}) ({NAME}) ({NAME}) [lr]{{1,6}}", rf"join ({NAME}) ({NAME}) ({NAME}) {COUNT}",
+        rf"cross ({NAME}) ({NAME}) ({NAME}) ({NAME})"],
+    2: [r"lift (?:0|[1-9][0-9]{0,59}|10{60}) [0-9] (?:up|down)"],
+}
+
+
+def sort_by_hand(row):
+    """0 of an inlet, 1 of a gate, 2 of a lift, by the row alone; None of what is none."""
+    for sort, forms in ROW_FORMS.items():
+        for form in forms:
+            found = re.fullmatch(form, row, re.ASCII)
+            if found and len(set(found.groups())) == len(found.groups()):
+                words = row.split(" ")
+                if words[0] == "hold" and int(words[4]) > int(words[3]):
+                    return None
+                return sort
+    return None
+
+
+def row_by_hand(text, last):
+    """The row at which a text is no web's, or no course's, None where each is so by itself."""
+    sorts = []
+    for at, row in enumerate(text.split("\n")):
+        sort = sort_by_hand(row)
+        if sort is None or sort > last or sort < max(sorts, default=0) or (at == 0 and sort != 0):
+            return at
+        sorts.append(sort)
+    return None
+
+
+def due_by_hand(text, last):
+    """The refusal that is due of a web's text, last 1, or a course's, last 2."""
+    at = row_by_hand(text, last)
+    if at is not None:
+        return Unread, at
+    rows = [tuple(int(word) if word.isdigit() else word for word in row.split(" ")) for row in text.split("\n")]
+    try:
+        web = Web([row[1:] for row in rows if row[0] == "inlet"], [row for row in rows if row[0] not in ("inlet", "lift")])
+        Course(web, lifts=[row[1:] for row in rows if row[0] == "lift"])
+    except (NoWeb, NoCourse):
+        return Unread, len(rows)
+    return None
+
+
+def spoilt_texts(luck, text, many):
+    """Texts that are otherwise at some place, by luck."""
+    found = []
+    for _ in range(many):
+        rows = text.split("\n")
+        at, turn = luck.randrange(len(rows)), luck.randrange(9)
+        if turn == 0:
+            del rows[at]
+        elif turn == 1:
+            rows.insert(luck.randrange(len(rows) + 1), rows[at])
+        elif turn == 2:
+            odd = luck.choice(["", " ", "lift 0 0 up", "inlet q x", "wait q r 0", "stream a b"])
+            rows.insert(luck.randrange(len(rows) + 1), odd)
+        elif turn == 3:
+            other = luck.randrange(len(rows))
+            rows[at], rows[other] = rows[other], rows[at]
+        elif turn < 7:
+            words = rows[at].split(" ")
+            place = luck.randrange(len(words))
+            odd = ["0", "1", "2", "12", "13", "-1", "-0", "00", "01", "x", "-", "lr", "a", "A", "", "up", "inlet", "hold", "?",
+                   "1.0", "+1", "1_0", "\u0661", str(10 ** 60), str(10 ** 60 + 1), *words]
+            words[place:place + luck.choice([0, 1, 1])] = [luck.choice(odd)]
+            rows[at] = " ".join(words)
+        else:
+            place = luck.randrange(len(rows[at]) + 1)
+            rows[at] = rows[at][:place] + luck.choice(" \n-0x1la\t\r") + rows[at][place + luck.choice([0, 1]):]
+        found.append("\n".join(rows))
+    return found
+
+
+# Deeds that can be done one by one, and the text of a yard that has done them.
+YARD_DEEDS = [
+    ("web", "w", Web([("a", "x")], [("hold", "a", "b", 1, 0)])), ("stream", "s", "w"), ("step", "s", (None,)),
+    ("step", "s", (10 ** 12,)), ("lift", "s", 0, "up"), ("lift", "s", 0, "down"), ("look", "s", "b", -4),
+    ("tell", "s", 0, 0, -4), ("twin", "s", "t"), ("change", "w", Web([("a", "x")], [("wait", "a", "b", 1)])),
+    ("web", "none", Web([("q", "--x")])), ("stream", "u", "none"), ("step", "u", ()), ("drop", "u")]
+YARD_TEXT = f"""web w
+inlet a x
+hold a b 1 0
+stream s w
+step s ?
+step s {10 ** 12}
+lift s 0 up
+lift s 0 down
+look s b -4
+tell s 0 0 -4
+twin s t
+change w
+inlet a x
+wait a b 1
+web none
+inlet q --x
+stream u none
+step u
+drop u"""
+DEED_WORDS = ("web", "stream", "step", "lift", "look", "tell", "twin", "change", "drop")

@@ -7,9 +7,8 @@ from holdgates.courses import Course
 from holdgates.errors import Jams, NoGiven, NoLook, NoSight, TooMany
 from holdgates.feeds import times_by
 from holdgates.webs import Web
-from tests.helper import (Cases, anything, are_shown, due, equal_kinds, fed_by, luck_of, made_course, made_sightings, made_web,
-                          shown_by, some_spoilt, spoilt, unchanged)
-from tests.test_trees import HOLDS, LEAVES
+from tests.helper import (HOLDS, LEAVES, Cases, anything, are_shown, due, equal_kinds, fed_by, luck_of, made_course,
+                          made_sightings, made_web, shown_by, some_spoilt, spoilt, unchanged)
 
 FAR = 10 ** 12
 LINE = Course(Web([("a", "x")]))

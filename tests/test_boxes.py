@@ -7,9 +7,8 @@ from holdgates.courses import Course
 from holdgates.errors import Jams, NoGiven, NoSight, TooMany
 from holdgates.trees import inputs_of, tree_of
 from holdgates.webs import Web
-from tests.helper import (Cases, anything, are_shown, due, equal_kinds, fed_by, lies_in, luck_of, made_course, made_sightings,
-                          made_web, unchanged)
-from tests.test_trees import HOLDS, LEAVES
+from tests.helper import (HOLDS, LEAVES, Cases, anything, are_shown, due, equal_kinds, fed_by, leaf_of, lies_in,
+                          luck_of, made_course, made_sightings, made_web, unchanged)
 
 LINE = Course(Web([("a", "x")]))
 HOLD = Course(Web([("a", "x")], [("hold", "a", "b", 1, 0)]))
@@ -79,14 +78,6 @@ class Boxes(unittest.TestCase):
                 self.assertTrue(equal_kinds(due(boxes, LINE, thing), (NoSight, number)))
         with self.assertRaises(TypeError):
             boxes(LINE, [], ())
-
-
-def leaf_of(tree, numbers):
-    """The leaf to which numbers lead, a dict by inputs."""
-    node = tree[0]
-    while node[0] == "split":
-        node = tree[node[3] if numbers[node[1]] < node[2] else node[4]]
-    return node
 
 
 class Counts(unittest.TestCase):

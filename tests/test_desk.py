@@ -7,8 +7,7 @@ from holdgates.texts import show_web
 from holdgates.webs import Web
 from holdgates.yard import Yard
 from holdgates.yardtexts import read_yard, show_yard
-from tests.helper import anything, due, equal_kinds, luck_of, made_deed
-from tests.test_yardtexts import DEEDS, TEXT, WORDS
+from tests.helper import DEED_WORDS, YARD_DEEDS, YARD_TEXT, anything, due, equal_kinds, luck_of, made_deed
 
 FAR = 10 ** 12
 HOLD = Web([("a", "x")], [("hold", "a", "b", 1, 0)])
@@ -39,12 +38,12 @@ def streams(*rows, web=HOLD):
 class Says(unittest.TestCase):
     def test_deeds(self):
         desk, yard = Desk(), Yard()
-        for deed in DEEDS:
+        for deed in YARD_DEEDS:
             yard.do(deed)
             self.assertTrue(equal_kinds(desk.say(text_of(deed)), "ok"))
             self.assertTrue(desk.yard() == yard)
             self.assertEqual(desk.say("text"), show_yard(yard))
-        self.assertEqual(desk.say(row="text"), TEXT)
+        self.assertEqual(desk.say(row="text"), YARD_TEXT)
         self.assertTrue(read_yard(desk.say("text")) == yard)
 
     def test_an_empty_desk(self):
@@ -286,4 +285,4 @@ class Refused(unittest.TestCase):
         self.refused(jams, "step s 1 1", Jams, 2)
 
     def test_each_word_was_asked(self):
-        self.assertEqual(len(set(WORDS) | set(ASKS)), 19)
+        self.assertEqual(len(set(DEED_WORDS) | set(ASKS)), 19)

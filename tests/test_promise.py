@@ -23,10 +23,8 @@ from holdgates.treelooks import shows_tree
 from holdgates.webs import Web
 from holdgates.yard import Yard
 from holdgates.yardtexts import read_yard, show_yard
-from tests.helper import (Cases, are_shown, due, fed_by, lies_in, luck_of, made_course, made_feed_of, made_kinds, made_sightings,
-                          made_web, other_of, refusal)
-from tests.test_boxes import leaf_of
-from tests.test_treelooks import other_tree
+from tests.helper import (Cases, are_shown, due, fed_by, leaf_of, lies_in, luck_of, made_course, made_feed_of,
+                          made_kinds, made_sightings, made_web, other_of, other_tree, refusal)
 
 
 def lanes_of(web, feed, beats, lanes):

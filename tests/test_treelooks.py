@@ -7,40 +7,14 @@ from holdgates.errors import Jams, NoGiven, NoSight
 from holdgates.treelooks import shows_tree
 from holdgates.trees import tree_of
 from holdgates.webs import Web
-from tests.helper import (Cases, anything, due, equal_kinds, has_below, has_from, luck_of, made_course, made_sightings,
-                          made_web, some_spoilt, spoilt, unchanged)
+from tests.helper import (Cases, anything, due, equal_kinds, luck_of, made_course, made_sightings, made_web,
+                          other_tree, some_spoilt, spoilt, unchanged)
 
 LINE = Course(Web([("a", "x")]))
 HOLD = Course(Web([("a", "x")], [("hold", "a", "b", 1, 0)]))
 JAMS = Course(Web([("a", "x"), ("b", "x")], [("join", "a", "b", "c", 2)]))
 SIGHT = [(1, "a", 5)]
 TOLD = [("split", (0, 0), 5, 1, 2), ("out", 0), ("split", (0, 0), 6, 3, 4), ("fits",), ("out", 0)]
-
-
-def other_tree(luck, cases, most=150):
-    """Another tree of cases by luck: inputs are split in any order, and nodes stand in any order behind their own."""
-    numbers = sorted({number + more for _, _, number in cases.sightings for more in (-1, 0, 1, 2)})
-    nodes, line = [None], [(0, cases.whole())]
-    while line:
-        at, box = line.pop(luck.randrange(len(line)))
-        missed = [number for number in range(len(cases.sightings)) if cases.is_missed(box, number)]
-        if missed:
-            nodes[at] = ("out", luck.choice(missed))
-            continue
-        if all(cases.is_fit(box, number) for number in range(len(cases.sightings))) and luck.random() < 0.9:
-            nodes[at] = ("fits",)
-            continue
-        cuts = [(part, cut) for part in cases.inputs for cut in numbers + [10 ** 40]
-                if has_below(box[part], cut) and has_from(box[part], cut)]
-        if not cuts or len(nodes) > most:
-            return None
-        part, cut = luck.choice([cut for cut in cuts if cut[1] < 10 ** 40 or luck.random() < 0.1] or cuts)
-        left, right = luck.sample([len(nodes), len(nodes) + 1], 2)
-        nodes[at] = ("split", part, cut, left, right)
-        nodes.extend([None, None])
-        line.append((left, {**box, part: (box[part][0], cut - 1)}))
-        line.append((right, {**box, part: (cut, box[part][1])}))
-    return nodes
 
 
 class Looks(unittest.TestCase):

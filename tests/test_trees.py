@@ -5,7 +5,8 @@ from holdgates.courses import Course
 from holdgates.errors import Jams, NoGiven, NoSight, TooMany
 from holdgates.trees import inputs_of, tree_of
 from holdgates.webs import Web
-from tests.helper import (Cases, anything, due, equal_kinds, luck_of, made_course, made_sightings, made_web, unchanged)
+from tests.helper import (HOLDS, LEAVES, Cases, anything, due, equal_kinds, luck_of, made_course, made_sightings,
+                          made_web, unchanged)
 
 FAR = 10 ** 12
 LINE = Course(Web([("a", "x")]))
@@ -14,14 +15,6 @@ CROSS = Course(Web([("a", "x"), ("b", "x-")], [("cross", "a", "b", "c", "d")]))
 # Jams at beat 3.
 JAMS = Course(Web([("a", "x"), ("b", "x")], [("join", "a", "b", "c", 2)]))
 ASKS = (inputs_of, tree_of)
-HOLDS = Course(Web([("a", "x")], [("hold", "a", "b", 3, 1), ("hold", "b", "c", 2, 1)]))
-# Sightings and given numbers by how many leaves their told tree has.
-LEAVES = {
-    199: ([(8, "c", 1), (5, "b", 1), (7, "c", 0)], [(0, 5, 3)]),
-    200: ([(6, "c", 0), (6, "b", 0), (6, "c", 3)], []),
-    201: ([(6, "c", 3), (6, "b", 1), (6, "c", 3)], []),
-    205: ([(7, "c", 3), (6, "b", 0), (6, "c", 1)], [(0, 3, 0)]),
-}
 
 
 class Inputs(unittest.TestCase):

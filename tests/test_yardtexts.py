@@ -6,36 +6,11 @@ from holdgates.texts import read_web, show_web
 from holdgates.webs import Web
 from holdgates.yard import Yard
 from holdgates.yardtexts import read_yard, show_yard
-from tests.helper import HandYard, anything, due, equal_kinds, luck_of, made_deed, unchanged
-from tests.test_texts import due_by_hand, spoilt_texts
+from tests.helper import (DEED_WORDS, YARD_DEEDS, YARD_TEXT, HandYard, anything, due, due_by_hand, equal_kinds, luck_of,
+                          made_deed, spoilt_texts, unchanged)
 
 FAR = 10 ** 12
 HOLD = Web([("a", "x")], [("hold", "a", "b", 1, 0)])
-WAIT = Web([("a", "x")], [("wait", "a", "b", 1)])
-DEEDS = [
-    ("web", "w", HOLD), ("stream", "s", "w"), ("step", "s", (None,)), ("step", "s", (FAR,)), ("lift", "s", 0, "up"),
-    ("lift", "s", 0, "down"), ("look", "s", "b", -4), ("tell", "s", 0, 0, -4), ("twin", "s", "t"), ("change", "w", WAIT),
-    ("web", "none", Web([("q", "--x")])), ("stream", "u", "none"), ("step", "u", ()), ("drop", "u")]
-TEXT = f"""web w
-inlet a x
-hold a b 1 0
-stream s w
-step s ?
-step s {FAR}
-lift s 0 up
-lift s 0 down
-look s b -4
-tell s 0 0 -4
-twin s t
-change w
-inlet a x
-wait a b 1
-web none
-inlet q --x
-stream u none
-step u
-drop u"""
-WORDS = ("web", "stream", "step", "lift", "look", "tell", "twin", "change", "drop")
 NAME, NUMBER = "[a-z]{1,8}", "(?:0|-?[1-9][0-9]*)"
 FORMS = {
     "web": NAME, "change": NAME, "drop": NAME, "stream": f"{NAME} {NAME}", "twin": f"{NAME} {NAME}",
@@ -54,12 +29,12 @@ def read_by_hand(text):
     while at < len(rows):
         words, first = rows[at].split(" "), at
         at += 1
-        if words[0] not in WORDS or not re.fullmatch(f"{words[0]} {FORMS[words[0]]}", rows[first], re.ASCII):
+        if words[0] not in DEED_WORDS or not re.fullmatch(f"{words[0]} {FORMS[words[0]]}", rows[first], re.ASCII):
             return first, None
         parts = [part_by_hand(word) for word in words]
         deed = tuple(parts)
         if words[0] in ("web", "change"):
-            while at < len(rows) and rows[at].split(" ")[0] not in WORDS:
+            while at < len(rows) and rows[at].split(" ")[0] not in DEED_WORDS:
                 at += 1
             web = "\n".join(rows[first + 1:at])
             if due_by_hand(web, 1):
@@ -76,19 +51,19 @@ def read_by_hand(text):
 class Shown(unittest.TestCase):
     def test_a_row_for_each_deed(self):
         yard = Yard()
-        yard.run(DEEDS[:5])
-        for deed in DEEDS[5:]:
+        yard.run(YARD_DEEDS[:5])
+        for deed in YARD_DEEDS[5:]:
             yard.do(deed)
-        self.assertTrue(equal_kinds(unchanged(show_yard, yard), TEXT))
-        self.assertEqual(show_yard(yard=yard), TEXT)
-        self.assertTrue(read_yard(text=TEXT) == yard)
-        self.assertTrue(equal_kinds(read_yard(TEXT).deeds(), DEEDS))
+        self.assertTrue(equal_kinds(unchanged(show_yard, yard), YARD_TEXT))
+        self.assertEqual(show_yard(yard=yard), YARD_TEXT)
+        self.assertTrue(read_yard(text=YARD_TEXT) == yard)
+        self.assertTrue(equal_kinds(read_yard(YARD_TEXT).deeds(), YARD_DEEDS))
 
     def test_deeds_that_stand(self):
-        yard = read_yard(TEXT)
-        for many in range(len(DEEDS), -1, -1):
+        yard = read_yard(YARD_TEXT)
+        for many in range(len(YARD_DEEDS), -1, -1):
             self.assertTrue(read_yard(show_yard(yard)) == yard)
-            self.assertEqual(read_yard(show_yard(yard)).deeds(), DEEDS[:many])
+            self.assertEqual(read_yard(show_yard(yard)).deeds(), YARD_DEEDS[:many])
             self.assertIs(yard.undo(), many > 0)
         self.assertEqual(show_yard(yard), "")
 
@@ -99,12 +74,12 @@ class Shown(unittest.TestCase):
         self.assertIs(read_yard("").undo(), False)
 
     def test_one_by_one(self):
-        yard = read_yard(TEXT)
-        for many in range(len(DEEDS) - 1, -1, -1):
+        yard = read_yard(YARD_TEXT)
+        for many in range(len(YARD_DEEDS) - 1, -1, -1):
             self.assertIs(yard.undo(), True)
-            self.assertEqual(yard.deeds(), DEEDS[:many])
+            self.assertEqual(yard.deeds(), YARD_DEEDS[:many])
         self.assertIs(yard.undo(), False)
-        self.assertFalse(read_yard(TEXT) == read_yard(TEXT.rpartition("\n")[0]))
+        self.assertFalse(read_yard(YARD_TEXT) == read_yard(YARD_TEXT.rpartition("\n")[0]))
 
     def test_names_that_are_words(self):
         yard = Yard()
@@ -147,7 +122,7 @@ class Unreads(unittest.TestCase):
             luck, yard = luck_of(seed + 2900), Yard()
             for _ in range(25):
                 due(yard.do, made_deed(luck, yard))
-            for wrong in spoilt_texts(luck, show_yard(yard) or "web a", 40) + spoilt_texts(luck, TEXT, 5):
+            for wrong in spoilt_texts(luck, show_yard(yard) or "web a", 40) + spoilt_texts(luck, YARD_TEXT, 5):
                 row, deeds = read_by_hand(wrong)
                 if row is not None:
                     self.unread(wrong, row)
@@ -159,16 +134,16 @@ class Unreads(unittest.TestCase):
         self.assertTrue(min(many.values()) > 100, many)
 
     def test_blanks_and_line_feeds(self):
-        rows = TEXT.split("\n")
+        rows = YARD_TEXT.split("\n")
         for at, row in enumerate(rows):
             # Of a web's rows that are none the row is that of its name.
-            owner = max(number for number in range(at + 1) if rows[number].split(" ")[0] in WORDS)
+            owner = max(number for number in range(at + 1) if rows[number].split(" ")[0] in DEED_WORDS)
             for wrong in [row + " ", row.replace(" ", "  ", 1), row + "\r", row + "\t", row + " 1"]:
                 if wrong == row or (row == "step u" and wrong == "step u 1"):
                     continue
-                self.unread("\n".join(rows[:at] + [wrong] + rows[at + 1:]), owner if row.split(" ")[0] not in WORDS else at)
-        self.unread(TEXT + "\n", len(rows))
-        self.unread("\n" + TEXT, 0)
+                self.unread("\n".join(rows[:at] + [wrong] + rows[at + 1:]), owner if row.split(" ")[0] not in DEED_WORDS else at)
+        self.unread(YARD_TEXT + "\n", len(rows))
+        self.unread("\n" + YARD_TEXT, 0)
         self.unread("\n", 0)
         self.unread(" ", 0)
         # An empty row behind a web's rows is taken as one of them.
