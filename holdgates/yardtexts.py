@@ -1,8 +1,8 @@
 """A yard's text: a row for each deed that stands, webs by rows of their own."""
 
 from holdgates.deeds import FORMS, is_deed
-from holdgates.errors import (Due, Full, Jams, Needed, NoGate, NoInput, NoLane, NoName, NoToken, Taken, TooMany, Unfit,
-                              Unread, Unseen)
+from holdgates.errors import Due, Full, Jams, Needed, NoGate, NoInput, NoLane, NoName, NoToken, Taken, TooMany
+from holdgates.errors import Unfit, Unread, Unseen
 from holdgates.figures import parts_in, row_with
 from holdgates.texts import read_web, show_web
 from holdgates.yard import Yard
@@ -69,13 +69,13 @@ def _texts_in(text):
     found = []
     rows = text.split("\n") if text != "" else []
     for number, row in enumerate(rows):
-        if len(found) > 0 and _is_word_of(found[-1][1], WITH_WEB) and not _is_word_of(row, FORMS):
+        if len(found) > 0 and _first_word(found[-1][1]) in WITH_WEB and _first_word(row) not in FORMS:
             found[-1] = (found[-1][0], found[-1][1] + "\n" + row)
         else:
             found.append((number, row))
     return found
 
 
-def _is_word_of(text, words):
-    """Whether the first word of a text is one of these."""
-    return text.split("\n")[0].split(" ")[0] in words
+def _first_word(text):
+    """The first word of a text's first row."""
+    return text.split("\n")[0].split(" ")[0]

@@ -441,6 +441,17 @@ class Refused(unittest.TestCase):
         yard.do(("tell", "s", 0, 1, 1))
         yard.do(("look", "s", "a", 5))
 
+    def test_too_many_of_a_number_told(self):
+        # With the first number known the tree is split otherwise, and has more leaves.
+        step, hand = ("step", "s", (None,)), HandYard()
+        deeds = [step, ("look", "s", "a", 2), step, step, ("look", "s", "a", 5), step, step, step, ("look", "s", "b", 1)]
+        yard = streams(*deeds, web=LESS)
+        self.assertIsNone(hand.run(yard.deeds()))
+        self.assertEqual(len(yard.tree("s")), 2 * 164 - 1)
+        self.assertEqual(hand.run([("tell", "s", 0, 0, 2)]), (TooMany, 200))
+        self.refused(yard, ("tell", "s", 0, 0, 2), TooMany, 200)
+        self.refused(yard, ("tell", "s", 0, 0, 3), Unseen, "s")
+
     def test_needed(self):
         yard = streams(("twin", "s", "t"))
         self.refused(yard, ("drop", "w"), Needed, "w")
